@@ -21,8 +21,8 @@ func roomy(a []uint64) []uint64 {
 // whole gives a list with its spare room.
 func whole(a []uint64) []uint64 { return a[:cap(a)] }
 
-// numbers gives whole numbers in forms of all kinds.
-func numbers() []api.Int {
+// numbers gives fractions in forms of all kinds.
+func numbers() []api.Rat {
 	long := make([]uint64, 70)
 	for i := range long {
 		long[i] = uint64(i) * 0x9e3779b97f4a7c15
@@ -31,9 +31,11 @@ func numbers() []api.Int {
 		nil, {}, {0}, {0, 0, 0}, {1}, {1, 0}, {6, 0, 0}, {math.MaxInt64}, {1 << 63}, {1<<63 + 1}, {math.MaxUint64},
 		{0, 1}, {0, 1, 0}, {math.MaxUint64, math.MaxUint64}, {1, 0, 1 << 63}, long, long[:40], append(long[1:34:34], 0, 0),
 	}
-	var out []api.Int
-	for _, l := range lists {
-		out = append(out, api.Int{Abs: l}, api.Int{Neg: true, Abs: l})
+	dens := [][]uint64{nil, {1}, {0}, {2, 0}, {6}, {0, 1}, {0, 0}, {1, 0}, long[1:30], {0, 3, 0}, {math.MaxUint64}, {}}
+	var out []api.Rat
+	for i, l := range lists {
+		den := dens[i%len(dens)]
+		out = append(out, api.Rat{Num: api.Int{Abs: l}, Den: den}, api.Rat{Num: api.Int{Neg: true, Abs: l}, Den: den})
 	}
 	return out
 }
@@ -41,12 +43,13 @@ func numbers() []api.Int {
 // all gives what calls are given in these tests.
 func all() []given {
 	counts := []int{0, 1, -1, 63, 64, 65, api.MaxShift, api.MaxShift + 1, math.MaxInt, math.MinInt}
-	texts := []string{"", "-", "+", "0", "-0", "17", "-17", "+-1", "1x", "\xff\x00", strings.Repeat("8", 200), "-" + strings.Repeat("8", 200), strings.Repeat("8", 201), "-" + strings.Repeat("8", 201)}
+	texts := []string{"", "-", "+", "0", "-0", "17", "-17", "+-1", "1x", "\xff\x00", strings.Repeat("8", 200), "-" + strings.Repeat("8", 200), strings.Repeat("8", 201), "-" + strings.Repeat("8", 201),
+		"-6/4", "6/-4", "1/0", "12.50", ".5", "-2.5e-1", "1e99", "1e-100", "0.0E+00"}
 	var out []given
 	for _, a := range numbers() {
 		for _, b := range numbers() {
 			i := len(out)
-			out = append(out, given{a, b, counts[i%len(counts)], texts[i%len(texts)]})
+			out = append(out, given{a, b, counts[i%len(counts)], counts[i/len(counts)%len(counts)], texts[i%len(texts)]})
 		}
 	}
 	return out
@@ -54,7 +57,9 @@ func all() []given {
 
 // fresh gives the same in memory of its own, with marks in the spare room.
 func fresh(g given) given {
-	g.a.Abs, g.b.Abs = roomy(g.a.Abs), roomy(g.b.Abs)
+	for _, l := range g.lists() {
+		*l = roomy(*l)
+	}
 	return g
 }
 
@@ -114,6 +119,8 @@ func TestZeroBesideErrors(t *testing.T) {
 	}{
 		{"nat.Sub", api.ErrBelow}, {"nat.DivMod", api.ErrZero}, {"nat.Shl", api.ErrArg}, {"nat.Shr", api.ErrArg}, {"nat.Parse", api.ErrDigit}, {"nat.Parse", api.ErrLong},
 		{"zint.To", api.ErrLong}, {"zint.DivFloor", api.ErrZero}, {"zint.Parse", api.ErrDigit}, {"zint.Parse", api.ErrLong},
+		{"rat.Make", api.ErrZero}, {"rat.Of", api.ErrZero}, {"rat.Div", api.ErrZero},
+		{"ratext.Parse", api.ErrDigit}, {"ratext.Parse", api.ErrLong}, {"ratext.Parse", api.ErrZero},
 	} {
 		if !met[want.name+" "+want.e.Error()] {
 			t.Errorf("%s never answered %v", want.name, want.e)
@@ -129,13 +136,15 @@ func TestFormsAlike(t *testing.T) {
 		for _, g := range all() {
 			want := asText(c.run(g))
 			h := g
-			h.a.Abs, h.b.Abs = longer(g.a.Abs), longer(g.b.Abs)
+			for _, l := range h.lists() {
+				*l = longer(*l)
+			}
 			if got := asText(c.run(h)); got != want {
 				t.Errorf("%s(%v) = %q, with words 0: %q", c.name, g, want, got)
 			}
 		}
 		for _, f := range forms {
-			g, h := given{}, given{a: api.Int{Abs: f}, b: api.Int{Neg: true, Abs: f}}
+			g, h := given{}, given{a: api.Rat{Num: api.Int{Abs: f}, Den: f}, b: api.Rat{Num: api.Int{Neg: true, Abs: f}, Den: f}}
 			if got, want := asText(c.run(h)), asText(c.run(g)); got != want {
 				t.Errorf("%s of 0 as %v = %q, not %q", c.name, f, got, want)
 			}
@@ -143,14 +152,17 @@ func TestFormsAlike(t *testing.T) {
 	}
 }
 
-// P1.5, P2.4; rule 5: what is handed in isn't changed, its spare room neither.
+// P1.5, P2.4, P3.4, P4.3; rule 5: what is handed in isn't changed, its spare room neither.
 func TestArgumentsStay(t *testing.T) {
 	for _, c := range calls() {
 		for _, g := range all() {
 			h, kept := fresh(g), fresh(g)
 			c.run(h)
-			if !slices.Equal(whole(h.a.Abs)[:len(g.a.Abs)+3], whole(kept.a.Abs)[:len(g.a.Abs)+3]) || !slices.Equal(whole(h.b.Abs)[:len(g.b.Abs)+3], whole(kept.b.Abs)[:len(g.b.Abs)+3]) {
-				t.Errorf("%s(%v) changed what was handed in", c.name, g)
+			for i, l := range h.lists() {
+				n := len(*l) + 3
+				if !slices.Equal(whole(*l)[:n], whole(*kept.lists()[i])[:n]) {
+					t.Errorf("%s(%v) changed what was handed in", c.name, g)
+				}
 			}
 		}
 	}
@@ -173,30 +185,35 @@ func apart(lists [][]uint64) bool {
 	return true
 }
 
-// P1.5, P2.4; rule 5: answers are new memory.
+// P1.5, P2.4, P3.4, P4.3; rule 5: answers are new memory.
 func TestAnswersAreNew(t *testing.T) {
 	for _, c := range calls() {
 		for _, g := range all() {
 			h := fresh(g)
 			one, two := c.run(h), c.run(h)
-			lists := append([][]uint64{h.a.Abs, h.b.Abs}, one.lists...)
-			if !apart(append(lists, two.lists...)) {
+			lists := append(one.lists, two.lists...)
+			for _, l := range h.lists() {
+				lists = append(lists, *l)
+			}
+			if !apart(lists) {
 				t.Errorf("%s(%v) shares memory", c.name, g)
 			}
 		}
 	}
 }
 
-// P1.5, P2.4; rule 5: nothing is wrong when one list is handed in twice, and nothing was kept of it.
+// P1.5, P2.4, P3.4, P4.3; rule 5: nothing is wrong when one list is handed in twice, and nothing was kept of it.
 func TestOneListTwice(t *testing.T) {
 	for _, c := range calls() {
 		for _, g := range all() {
-			g.b = api.Int{Neg: g.b.Neg, Abs: g.a.Abs}
+			g.b = api.Rat{Num: api.Int{Neg: g.b.Num.Neg, Abs: g.a.Num.Abs}, Den: g.a.Num.Abs}
 			want := asText(c.run(fresh(g)))
 			h := fresh(g)
-			h.b.Abs = h.a.Abs
+			h.b.Num.Abs, h.b.Den = h.a.Num.Abs, h.a.Num.Abs
 			got := c.run(h)
-			clear(whole(h.a.Abs))
+			for _, l := range h.lists() {
+				clear(whole(*l))
+			}
 			if text := asText(got); text != want {
 				t.Errorf("%s(%v) = %q, not %q", c.name, g, text, want)
 			}
