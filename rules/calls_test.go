@@ -2,131 +2,159 @@
 package rules
 
 import (
-	"fmt"
-	"strconv"
+	"math/rand"
+	"reflect"
 
 	"cutwater/api"
+	"cutwater/mat"
 	"cutwater/nat"
 	"cutwater/rat"
 	"cutwater/ratext"
+	"cutwater/vec"
 	"cutwater/zint"
 )
 
-// given is what a call is given; each call takes of it what it needs, those of nat and zint but the Nums of a and b.
-type given struct {
-	a, b api.Rat
-	n, m int
-	text string
-}
-
-// lists gives all lists of words in it, to be read or set.
-func (g *given) lists() []*[]uint64 {
-	return []*[]uint64{&g.a.Num.Abs, &g.a.Den, &g.b.Num.Abs, &g.b.Den}
-}
-
-// String tells it in a test's words.
-func (g given) String() string {
-	return fmt.Sprintf("%v, %v, %d, %d, %.20q", g.a, g.b, g.n, g.m, g.text)
-}
-
-// answer is what a call answered: its lists of words, what else it answered as a text, its error, and whether all but the error is a zero value.
-type answer struct {
-	lists [][]uint64
-	other string
-	e     api.Errno
-	empty bool
-}
-
-// call is a call of the program by its name.
+// call is a call of the program by its name, and the errors that it has.
 type call struct {
-	name string
-	run  func(g given) answer
+	name   string
+	f      any
+	errors []api.Errno
 }
 
-func ofLists(e api.Errno, lists ...[]uint64) answer {
-	empty := true
-	for _, l := range lists {
-		empty = empty && len(l) == 0
-	}
-	return answer{lists: lists, e: e, empty: empty}
-}
-
-func ofInts(e api.Errno, ints ...api.Int) answer {
-	out := answer{e: e, empty: true}
-	for _, a := range ints {
-		out.lists = append(out.lists, a.Abs)
-		out.other += strconv.FormatBool(a.Neg) + " "
-		out.empty = out.empty && !a.Neg && len(a.Abs) == 0
-	}
-	return out
-}
-
-func ofRat(e api.Errno, a api.Rat) answer {
-	out := ofInts(e, a.Num)
-	out.lists = append(out.lists, a.Den)
-	out.empty = out.empty && len(a.Den) == 0
-	return out
-}
-
-func ofNumber(e api.Errno, n int64) answer {
-	return answer{other: strconv.FormatInt(n, 10), e: e, empty: n == 0}
-}
-
-func ofText(s string) answer { return answer{other: s, empty: s == ""} }
+// errors writes a list of errors.
+func errors(list ...api.Errno) []api.Errno { return list }
 
 // callsOfWholes are those of nat and zint.
 func callsOfWholes() []call {
 	return []call{
-		{"nat.Trim", func(g given) answer { return ofLists(api.OK, nat.Trim(g.a.Num.Abs)) }},
-		{"nat.Cmp", func(g given) answer { return ofNumber(api.OK, int64(nat.Cmp(g.a.Num.Abs, g.b.Num.Abs))) }},
-		{"nat.Add", func(g given) answer { return ofLists(api.OK, nat.Add(g.a.Num.Abs, g.b.Num.Abs)) }},
-		{"nat.Sub", func(g given) answer { l, e := nat.Sub(g.a.Num.Abs, g.b.Num.Abs); return ofLists(e, l) }},
-		{"nat.Mul", func(g given) answer { return ofLists(api.OK, nat.Mul(g.a.Num.Abs, g.b.Num.Abs)) }},
-		{"nat.DivMod", func(g given) answer { q, r, e := nat.DivMod(g.a.Num.Abs, g.b.Num.Abs); return ofLists(e, q, r) }},
-		{"nat.Gcd", func(g given) answer { return ofLists(api.OK, nat.Gcd(g.a.Num.Abs, g.b.Num.Abs)) }},
-		{"nat.Shl", func(g given) answer { l, e := nat.Shl(g.a.Num.Abs, g.n); return ofLists(e, l) }},
-		{"nat.Shr", func(g given) answer { l, e := nat.Shr(g.a.Num.Abs, g.n); return ofLists(e, l) }},
-		{"nat.Bits", func(g given) answer { return ofNumber(api.OK, int64(nat.Bits(g.a.Num.Abs))) }},
-		{"nat.Parse", func(g given) answer { l, e := nat.Parse(g.text); return ofLists(e, l) }},
-		{"nat.Text", func(g given) answer { return ofText(nat.Text(g.a.Num.Abs)) }},
-		{"zint.Make", func(g given) answer { return ofInts(api.OK, zint.Make(g.a.Num.Neg, g.a.Num.Abs)) }},
-		{"zint.Of", func(g given) answer { return ofInts(api.OK, zint.Of(int64(g.n))) }},
-		{"zint.To", func(g given) answer { n, e := zint.To(g.a.Num); return ofNumber(e, n) }},
-		{"zint.Sign", func(g given) answer { return ofNumber(api.OK, int64(zint.Sign(g.a.Num))) }},
-		{"zint.Cmp", func(g given) answer { return ofNumber(api.OK, int64(zint.Cmp(g.a.Num, g.b.Num))) }},
-		{"zint.Neg", func(g given) answer { return ofInts(api.OK, zint.Neg(g.a.Num)) }},
-		{"zint.Add", func(g given) answer { return ofInts(api.OK, zint.Add(g.a.Num, g.b.Num)) }},
-		{"zint.Sub", func(g given) answer { return ofInts(api.OK, zint.Sub(g.a.Num, g.b.Num)) }},
-		{"zint.Mul", func(g given) answer { return ofInts(api.OK, zint.Mul(g.a.Num, g.b.Num)) }},
-		{"zint.DivFloor", func(g given) answer { q, r, e := zint.DivFloor(g.a.Num, g.b.Num); return ofInts(e, q, r) }},
-		{"zint.Parse", func(g given) answer { a, e := zint.Parse(g.text); return ofInts(e, a) }},
-		{"zint.Text", func(g given) answer { return ofText(zint.Text(g.a.Num)) }},
+		{"nat.Trim", nat.Trim, nil},
+		{"nat.Cmp", nat.Cmp, nil},
+		{"nat.Add", nat.Add, nil},
+		{"nat.Sub", nat.Sub, errors(api.ErrBelow)},
+		{"nat.Mul", nat.Mul, nil},
+		{"nat.DivMod", nat.DivMod, errors(api.ErrZero)},
+		{"nat.Gcd", nat.Gcd, nil},
+		{"nat.Shl", nat.Shl, errors(api.ErrArg)},
+		{"nat.Shr", nat.Shr, errors(api.ErrArg)},
+		{"nat.Bits", nat.Bits, nil},
+		{"nat.Parse", nat.Parse, errors(api.ErrDigit, api.ErrLong)},
+		{"nat.Text", nat.Text, nil},
+		{"zint.Make", zint.Make, nil},
+		{"zint.Of", zint.Of, nil},
+		{"zint.To", zint.To, errors(api.ErrLong)},
+		{"zint.Sign", zint.Sign, nil},
+		{"zint.Cmp", zint.Cmp, nil},
+		{"zint.Neg", zint.Neg, nil},
+		{"zint.Add", zint.Add, nil},
+		{"zint.Sub", zint.Sub, nil},
+		{"zint.Mul", zint.Mul, nil},
+		{"zint.DivFloor", zint.DivFloor, errors(api.ErrZero)},
+		{"zint.Parse", zint.Parse, errors(api.ErrDigit, api.ErrLong)},
+		{"zint.Text", zint.Text, nil},
 	}
 }
 
 // callsOfFractions are those of rat and ratext.
 func callsOfFractions() []call {
 	return []call{
-		{"rat.Make", func(g given) answer { a, e := rat.Make(g.a.Num, g.b.Num); return ofRat(e, a) }},
-		{"rat.Form", func(g given) answer { return ofRat(api.OK, rat.Form(g.a)) }},
-		{"rat.Of", func(g given) answer { a, e := rat.Of(int64(g.n), int64(g.m)); return ofRat(e, a) }},
-		{"rat.Whole", func(g given) answer { return ofRat(api.OK, rat.Whole(int64(g.n))) }},
-		{"rat.OfInt", func(g given) answer { return ofRat(api.OK, rat.OfInt(g.a.Num)) }},
-		{"rat.Sign", func(g given) answer { return ofNumber(api.OK, int64(rat.Sign(g.a))) }},
-		{"rat.Cmp", func(g given) answer { return ofNumber(api.OK, int64(rat.Cmp(g.a, g.b))) }},
-		{"rat.Neg", func(g given) answer { return ofRat(api.OK, rat.Neg(g.a)) }},
-		{"rat.Add", func(g given) answer { return ofRat(api.OK, rat.Add(g.a, g.b)) }},
-		{"rat.Sub", func(g given) answer { return ofRat(api.OK, rat.Sub(g.a, g.b)) }},
-		{"rat.Mul", func(g given) answer { return ofRat(api.OK, rat.Mul(g.a, g.b)) }},
-		{"rat.Div", func(g given) answer { a, e := rat.Div(g.a, g.b); return ofRat(e, a) }},
-		{"rat.Floor", func(g given) answer { return ofInts(api.OK, rat.Floor(g.a)) }},
-		{"rat.Ceil", func(g given) answer { return ofInts(api.OK, rat.Ceil(g.a)) }},
-		{"rat.Frac", func(g given) answer { return ofRat(api.OK, rat.Frac(g.a)) }},
-		{"rat.IsWhole", func(g given) answer { return ofText(strconv.FormatBool(rat.IsWhole(g.a))) }},
-		{"ratext.Parse", func(g given) answer { a, e := ratext.Parse(g.text); return ofRat(e, a) }},
-		{"ratext.Text", func(g given) answer { return ofText(ratext.Text(g.a)) }},
+		{"rat.Make", rat.Make, errors(api.ErrZero)},
+		{"rat.Form", rat.Form, nil},
+		{"rat.Of", rat.Of, errors(api.ErrZero)},
+		{"rat.Whole", rat.Whole, nil},
+		{"rat.OfInt", rat.OfInt, nil},
+		{"rat.Sign", rat.Sign, nil},
+		{"rat.Cmp", rat.Cmp, nil},
+		{"rat.Neg", rat.Neg, nil},
+		{"rat.Add", rat.Add, nil},
+		{"rat.Sub", rat.Sub, nil},
+		{"rat.Mul", rat.Mul, nil},
+		{"rat.Div", rat.Div, errors(api.ErrZero)},
+		{"rat.Floor", rat.Floor, nil},
+		{"rat.Ceil", rat.Ceil, nil},
+		{"rat.Frac", rat.Frac, nil},
+		{"rat.IsWhole", rat.IsWhole, nil},
+		{"ratext.Parse", ratext.Parse, errors(api.ErrDigit, api.ErrLong, api.ErrZero)},
+		{"ratext.Text", ratext.Text, nil},
+	}
+}
+
+// callsOfVectors are those of vec and mat.
+func callsOfVectors() []call {
+	return []call{
+		{"vec.Make", vec.Make, nil},
+		{"vec.Get", vec.Get, nil},
+		{"vec.Dot", vec.Dot, nil},
+		{"vec.Scale", vec.Scale, nil},
+		{"vec.Axpy", vec.Axpy, nil},
+		{"vec.Gather", vec.Gather, nil},
+		{"vec.Scatter", vec.Scatter, errors(api.ErrArg)},
+		{"mat.Times", mat.Times, nil},
+		{"mat.TimesT", mat.TimesT, nil},
+		{"mat.Transpose", mat.Transpose, errors(api.ErrArg)},
+		{"mat.Product", mat.Product, nil},
+		{"mat.Rows", mat.Rows, errors(api.ErrArg)},
+		{"mat.Columns", mat.Columns, errors(api.ErrArg)},
 	}
 }
 
 // calls are all that stand now.
-func calls() []call { return append(callsOfWholes(), callsOfFractions()...) }
+func calls() []call {
+	var out []call
+	for _, list := range [][]call{callsOfWholes(), callsOfFractions(), callsOfVectors()} {
+		out = append(out, list...)
+	}
+	return out
+}
+
+// run calls it.
+func (c call) run(given []reflect.Value) answer {
+	return answer{reflect.ValueOf(c.f).Call(given)}
+}
+
+// games gives what it is given in these tests, one list of arguments a game: all that can be made of its supply, or so many of these by chance.
+func (c call) games() [][]reflect.Value {
+	const most = 1200
+	form := reflect.TypeOf(c.f)
+	all, supplies := 1, [][]any{}
+	for i := range form.NumIn() {
+		supplies = append(supplies, supply(form.In(i)))
+		all *= len(supplies[i])
+	}
+	r := rand.New(rand.NewSource(int64(all)))
+	var out [][]reflect.Value
+	for n := range min(all, most) {
+		if all > most {
+			n = r.Intn(all)
+		}
+		var given []reflect.Value
+		for _, list := range supplies {
+			given = append(given, reflect.ValueOf(list[n%len(list)]))
+			n /= len(list)
+		}
+		out = append(out, given)
+	}
+	return out
+}
+
+// answer is what a call answered.
+type answer struct{ results []reflect.Value }
+
+// err gives its error.
+func (a answer) err() api.Errno {
+	for _, v := range a.results {
+		if e, ok := v.Interface().(api.Errno); ok {
+			return e
+		}
+	}
+	return api.OK
+}
+
+// empty tells whether all but its error is a zero value.
+func (a answer) empty() bool {
+	for _, v := range a.results {
+		if _, ok := v.Interface().(api.Errno); !ok && !empty(v) {
+			return false
+		}
+	}
+	return true
+}

@@ -1,0 +1,50 @@
+package tell
+
+import (
+	"slices"
+
+	"cutwater/api"
+	"cutwater/nat"
+	"cutwater/rat"
+)
+
+// LooseInt gives a whole number in another form; pick chooses one of n.
+func LooseInt(a api.Int, pick func(n int) int) api.Int {
+	return api.Int{Neg: a.Neg || nat.Bits(a.Abs) == 0 && pick(2) == 1, Abs: LooseWords(a.Abs, pick)}
+}
+
+// LooseWords gives a natural number in another form.
+func LooseWords(a []uint64, pick func(n int) int) []uint64 {
+	return append(slices.Clone(a), make([]uint64, pick(3))...)
+}
+
+// LooseRat gives a fraction in another form.
+func LooseRat(a api.Rat, pick func(n int) int) api.Rat {
+	a = rat.Form(a)
+	if by := pick(6); by > 0 {
+		a.Num.Abs, a.Den = nat.Mul(a.Num.Abs, []uint64{uint64(by)}), nat.Mul(a.Den, []uint64{uint64(by)})
+	} else if rat.IsWhole(a) {
+		a.Den = nil
+	}
+	return api.Rat{Num: LooseInt(a.Num, pick), Den: LooseWords(a.Den, pick)}
+}
+
+// LooseVec gives a vector in another form.
+func LooseVec(v []api.Term, pick func(n int) int) []api.Term {
+	var out []api.Term
+	add := func(col int, val api.Rat) {
+		out = append(out, api.Term{Col: col, Val: LooseRat(val, pick)})
+		other := pick(len(out))
+		out[other], out[len(out)-1] = out[len(out)-1], out[other]
+	}
+	for _, t := range v {
+		part := rat.Whole(int64(pick(5) - 2))
+		add(t.Col, part)
+		add(t.Col, rat.Sub(t.Val, part))
+	}
+	for range pick(4) {
+		add(-1-pick(9), rat.Whole(int64(pick(9))))
+		add(pick(9), rat.Whole(0))
+	}
+	return out
+}
