@@ -11,7 +11,6 @@ import (
 	"cutwater/mat"
 	"cutwater/rat"
 	"cutwater/tell"
-	"cutwater/vec"
 )
 
 // table is another reckoner's matrix: all numbers, without noughts left out.
@@ -19,21 +18,11 @@ type table [][]api.Rat
 
 // loose gives it as rows, in forms of all kinds.
 func (m table) loose(r *rand.Rand) [][]api.Term {
-	var out [][]api.Term
-	for _, row := range m {
-		out = append(out, tell.LooseVec(vec.Gather(row), r.Intn))
-	}
-	return out
+	return tell.LooseRows(tell.Gather(m), r.Intn)
 }
 
 // text tells it as rows in their one form.
-func (m table) text() string {
-	var out [][]api.Term
-	for _, row := range m {
-		out = append(out, vec.Gather(row))
-	}
-	return tell.OfRows(out)
-}
+func (m table) text() string { return tell.OfRows(tell.Gather(m)) }
 
 // of gives a table whose numbers are given by their row and place.
 func of(n, m int, number func(i, k int) api.Rat) table {

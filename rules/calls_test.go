@@ -6,6 +6,7 @@ import (
 	"reflect"
 
 	"cutwater/api"
+	"cutwater/lu"
 	"cutwater/mat"
 	"cutwater/nat"
 	"cutwater/rat"
@@ -97,10 +98,48 @@ func callsOfVectors() []call {
 	}
 }
 
+// callsOfSquares are those of lu; what a matrix that was taken apart answers is answered twice.
+func callsOfSquares() []call {
+	twice := func(cols [][]api.Term, solve func(l *lu.LU) ([]api.Rat, api.Errno)) ([]api.Rat, []api.Rat, api.Errno) {
+		l, e := lu.Factor(cols)
+		if e != api.OK {
+			return nil, nil, e
+		}
+		first, e := solve(l)
+		second, _ := solve(l)
+		return first, second, e
+	}
+	return []call{
+		{"lu.Factor", func(cols [][]api.Term) (int, [][][]api.Term, []api.Rat, api.Errno) {
+			l, e := lu.Factor(cols)
+			if e != api.OK {
+				return 0, nil, nil, e
+			}
+			return l.Len(), [][][]api.Term{l.Columns(), l.Columns()}, []api.Rat{l.Det(), l.Det()}, e
+		}, errors(api.ErrArg, api.ErrSingular)},
+		{"lu.Solve", func(cols [][]api.Term, b []api.Rat) ([]api.Rat, []api.Rat, api.Errno) {
+			return twice(cols, func(l *lu.LU) ([]api.Rat, api.Errno) { return l.Solve(b) })
+		}, errors(api.ErrArg, api.ErrSingular)},
+		{"lu.SolveT", func(cols [][]api.Term, c []api.Rat) ([]api.Rat, []api.Rat, api.Errno) {
+			return twice(cols, func(l *lu.LU) ([]api.Rat, api.Errno) { return l.SolveT(c) })
+		}, errors(api.ErrArg, api.ErrSingular)},
+		{"lu.Replace", func(cols [][]api.Term, k int, col []api.Term) ([][]api.Term, api.Rat, api.Errno) {
+			l, e := lu.Factor(cols)
+			if e == api.OK {
+				e = l.Replace(k, col)
+			}
+			if e != api.OK {
+				return nil, api.Rat{}, e
+			}
+			return l.Columns(), l.Det(), e
+		}, errors(api.ErrArg, api.ErrSingular)},
+	}
+}
+
 // calls are all that stand now.
 func calls() []call {
 	var out []call
-	for _, list := range [][]call{callsOfWholes(), callsOfFractions(), callsOfVectors()} {
+	for _, list := range [][]call{callsOfWholes(), callsOfFractions(), callsOfVectors(), callsOfSquares()} {
 		out = append(out, list...)
 	}
 	return out

@@ -59,7 +59,7 @@ func vectors() [][]api.Term {
 // matrices gives matrices likewise.
 func matrices() [][][]api.Term {
 	out := [][][]api.Term{nil, {}, {nil}, {{}, nil, {{}}}, vectors()[6:8], vectors()[6:9], vectors()[2:4], vectors()}
-	for _, s := range []string{"1@0 2@1; 3@1;", "1@0; 1@1; 1@2;", "; -1/2@1; 5@0 5@0 0@2;", "1@3; 2@1 -1/3@2;", "1@65536;", "1@0; 1@9223372036854775807 3@-1;"} {
+	for _, s := range []string{"1@0 2@1; 3@1;", "1@0; 1@1; 1@2;", "; -1/2@1; 5@0 5@0 0@2;", "1@3; 2@1 -1/3@2;", "1@65536;", "1@0; 1@9223372036854775807 3@-1;", "1@0 1@1; 2@1;", "1/2@0 3@1 -1@2; 1@1; 3@2 100000000000000000000@0;"} {
 		out = append(out, tell.Rows(s))
 	}
 	return out

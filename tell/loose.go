@@ -48,3 +48,12 @@ func LooseVec(v []api.Term, pick func(n int) int) []api.Term {
 	}
 	return out
 }
+
+// LooseRows gives vectors in other forms.
+func LooseRows(rows [][]api.Term, pick func(n int) int) [][]api.Term {
+	var out [][]api.Term
+	for _, row := range rows {
+		out = append(out, LooseVec(row, pick))
+	}
+	return out
+}

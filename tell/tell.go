@@ -11,6 +11,7 @@ import (
 	"cutwater/api"
 	"cutwater/rat"
 	"cutwater/ratext"
+	"cutwater/vec"
 )
 
 // Rat reads a number.
@@ -56,6 +57,15 @@ func Rows(s string) [][]api.Term {
 		out = append(out, Vec(row))
 		s = rest
 	}
+}
+
+// Gather gives lists of numbers as vectors in their one form.
+func Gather(lists [][]api.Rat) [][]api.Term {
+	var out [][]api.Term
+	for _, list := range lists {
+		out = append(out, vec.Gather(list))
+	}
+	return out
 }
 
 // OfRat writes a number; behind one that isn't in its one form stands a question mark.

@@ -8,6 +8,7 @@ import (
 	"cutwater/nat"
 	"cutwater/rat"
 	"cutwater/tell"
+	"cutwater/vec"
 	"cutwater/zint"
 )
 
@@ -26,6 +27,23 @@ func TestTexts(t *testing.T) {
 	for _, s := range []string{"", ";", "1@0; ; -3/4@5 7@6;"} {
 		if got := tell.OfRows(tell.Rows(s)); got != s {
 			t.Errorf("%q is told as %q", s, got)
+		}
+	}
+}
+
+// Lists of numbers are vectors, and these in other forms are as many.
+func TestGather(t *testing.T) {
+	rows := tell.Gather([][]api.Rat{tell.Rats("0 2 -1/3"), nil, tell.Rats("7")})
+	if got, want := tell.OfRows(rows), "2@1 -1/3@2; ; 7@0;"; got != want {
+		t.Errorf("%q, not %q", got, want)
+	}
+	others := tell.LooseRows(rows, rand.New(rand.NewSource(6)).Intn)
+	if len(others) != 3 || tell.OfRows(others) == tell.OfRows(rows) {
+		t.Errorf("%q", tell.OfRows(others))
+	}
+	for i, row := range others {
+		if got, want := tell.OfVec(vec.Make(row)), tell.OfVec(rows[i]); got != want {
+			t.Errorf("%q, not %q", got, want)
 		}
 	}
 }
