@@ -6,8 +6,10 @@ import (
 	"reflect"
 
 	"cutwater/api"
+	"cutwater/fields"
 	"cutwater/lu"
 	"cutwater/mat"
+	"cutwater/mps"
 	"cutwater/nat"
 	"cutwater/rat"
 	"cutwater/ratext"
@@ -136,10 +138,29 @@ func callsOfSquares() []call {
 	}
 }
 
+// place tells where an error is: it stands beside it, and needn't be 0.
+type place int
+
+// callsOfTexts are those of fields and mps.
+func callsOfTexts() []call {
+	return []call{
+		{"fields.Lines", func(text string) ([]api.Line, api.Errno, place) {
+			lines, e, n := fields.Lines(text)
+			return lines, e, place(n)
+		}, errors(api.ErrLong, api.ErrField)},
+		{"mps.Parse", func(text string) (api.Problem, api.Errno, place) {
+			p, e, n := mps.Parse(text)
+			return p, e, place(n)
+		}, errors(api.ErrLong, api.ErrField, api.ErrMark, api.ErrSection, api.ErrName, api.ErrTwice, api.ErrUnknown, api.ErrNumber, api.ErrKind, api.ErrMany)},
+		{"mps.Check", mps.Check, errors(api.ErrArg, api.ErrLong)},
+		{"mps.Print", mps.Print, errors(api.ErrArg, api.ErrLong)},
+	}
+}
+
 // calls are all that stand now.
 func calls() []call {
 	var out []call
-	for _, list := range [][]call{callsOfWholes(), callsOfFractions(), callsOfVectors(), callsOfSquares()} {
+	for _, list := range [][]call{callsOfWholes(), callsOfFractions(), callsOfVectors(), callsOfSquares(), callsOfTexts()} {
 		out = append(out, list...)
 	}
 	return out
@@ -188,10 +209,14 @@ func (a answer) err() api.Errno {
 	return api.OK
 }
 
-// empty tells whether all but its error is a zero value.
+// empty tells whether all but its error, and the place of that, is a zero value.
 func (a answer) empty() bool {
 	for _, v := range a.results {
-		if _, ok := v.Interface().(api.Errno); !ok && !empty(v) {
+		switch v.Interface().(type) {
+		case api.Errno, place:
+			continue
+		}
+		if !empty(v) {
 			return false
 		}
 	}

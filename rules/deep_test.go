@@ -102,16 +102,26 @@ func loose(v reflect.Value, r *rand.Rand) reflect.Value {
 		return reflect.ValueOf(tell.LooseWords(a, r.Intn))
 	case []api.Term:
 		return reflect.ValueOf(tell.LooseVec(a, r.Intn))
+	case api.Problem: // its numbers must be in their one form
+		return parted(v, r, parts)
 	}
+	return parted(v, r, loose)
+}
+
+// parted gives a copy of whose parts others are made; of a list without elements perhaps nil, or the other way round.
+func parted(v reflect.Value, r *rand.Rand, other func(v reflect.Value, r *rand.Rand) reflect.Value) reflect.Value {
 	out := fresh(v)
 	if v.Kind() == reflect.Slice && v.Len() == 0 && r.Intn(2) == 0 {
 		out.SetZero()
 	}
 	for i := range size(v) {
-		part(out, i).Set(loose(part(v, i), r))
+		part(out, i).Set(other(part(v, i), r))
 	}
 	return out
 }
+
+// parts gives a copy that has nil for some of the lists without elements, and the other way round, and is else the same.
+func parts(v reflect.Value, r *rand.Rand) reflect.Value { return parted(v, r, parts) }
 
 // text tells a value; a nil list as one without elements.
 func text(v reflect.Value) string { return string(appendText(nil, v)) }

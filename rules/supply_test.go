@@ -4,9 +4,11 @@ import (
 	"math"
 	"reflect"
 	"slices"
+	"strconv"
 	"strings"
 
 	"cutwater/api"
+	"cutwater/mps"
 	"cutwater/tell"
 )
 
@@ -65,8 +67,41 @@ func matrices() [][][]api.Term {
 	return out
 }
 
-// manyTexts gives texts that are a number's, and such as aren't.
-func manyTexts() []string {
+// manyTexts gives texts of all kinds.
+func manyTexts() []string { return append(numberTexts(), problemTexts()...) }
+
+// problemTexts gives texts that are a problem's, and such as have something wrong; one of each kind.
+func problemTexts() []string {
+	many, head := "", "NAME p;ROWS; N cost; L r; E s;COLUMNS; x r 1 cost 2;"
+	for i := range api.MaxRows + 1 {
+		many += " L r" + strconv.Itoa(i) + ";"
+	}
+	out := []string{
+		"NAME;ROWS; N cost;COLUMNS;ENDATA", head + "ENDATA", head + "RHS; R r 7/2 s -1;RANGES; R s -3;BOUNDS; FX B x 1/3;ENDATA",
+		head + " M 'MARKER' 'INTORG'; y s 1; z r 100000000000000000000000; M 'MARKER' 'INTEND';RHS; R r 1/3;BOUNDS; UP B x 5; MI B y; UP B y 4; FR B z;ENDATA",
+		head + "RHS; R s -" + strings.Repeat("9", api.MaxDigits) + ";RANGES; R s -1;ENDATA",
+		"ROWS", head + "x", head + "RHS x", head + " x s", head + " M 'MARKER' 'INTEND'", head + " aNameOfMoreThanThirtyTwoBytesInAll r 1", head + " x r 1", head + " x no 1", head + " x s 1/0", head + "BOUNDS; XX B x", "NAME;ROWS;" + many,
+		strings.Repeat("*", api.MaxText+1),
+	}
+	for i, s := range out {
+		out[i] = strings.ReplaceAll(s, ";", "\n")
+	}
+	return out
+}
+
+// problems gives problems, and such as have something wrong.
+func problems() []api.Problem {
+	out := []api.Problem{{}, {Obj: "o"}, {Obj: "o", Rows: []api.Row{{Name: "r"}}, Vars: []api.Var{{Name: "x"}}}}
+	for _, text := range problemTexts() {
+		if p, e, _ := mps.Parse(text); e == api.OK {
+			out = append(out, p)
+		}
+	}
+	return out
+}
+
+// numberTexts gives texts that are a number's, and such as aren't.
+func numberTexts() []string {
 	return []string{
 		"", "-", "+", "0", "-0", "17", "-17", "+-1", "1x", "\xff\x00", strings.Repeat("8", 200), "-" + strings.Repeat("8", 200), strings.Repeat("8", 201), "-" + strings.Repeat("8", 201),
 		"-6/4", "6/-4", "1/0", "12.50", ".5", "-2.5e-1", "1e99", "1e-100", "0.0E+00",
@@ -96,6 +131,7 @@ func supply(of reflect.Type) []any {
 		anyOf(numberLists()),
 		anyOf(vectors()),
 		anyOf(matrices()),
+		anyOf(problems()),
 	}
 	i := slices.IndexFunc(supplies, func(list []any) bool { return reflect.TypeOf(list[0]) == of })
 	return supplies[i]

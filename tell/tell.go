@@ -4,12 +4,11 @@
 package tell
 
 import (
-	"slices"
 	"strconv"
 	"strings"
 
 	"cutwater/api"
-	"cutwater/rat"
+	"cutwater/oneform"
 	"cutwater/ratext"
 	"cutwater/vec"
 )
@@ -70,8 +69,7 @@ func Gather(lists [][]api.Rat) [][]api.Term {
 
 // OfRat writes a number; behind one that isn't in its one form stands a question mark.
 func OfRat(a api.Rat) string {
-	one := rat.Form(a)
-	if a.Num.Neg == one.Num.Neg && slices.Equal(a.Num.Abs, one.Num.Abs) && slices.Equal(a.Den, one.Den) {
+	if oneform.Number(a) {
 		return ratext.Text(a)
 	}
 	return ratext.Text(a) + "?"
