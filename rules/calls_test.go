@@ -6,9 +6,11 @@ import (
 	"reflect"
 
 	"cutwater/api"
+	"cutwater/cons"
 	"cutwater/fields"
 	"cutwater/lu"
 	"cutwater/mat"
+	"cutwater/model"
 	"cutwater/mps"
 	"cutwater/nat"
 	"cutwater/rat"
@@ -157,10 +159,32 @@ func callsOfTexts() []call {
 	}
 }
 
+// anyProblem is a problem where it may be in any form.
+type anyProblem api.Problem
+
+// callsOfMeaning are those of model and cons.
+func callsOfMeaning() []call {
+	return []call{
+		{"model.Holds", func(p anyProblem, x []api.Rat) bool { return model.Holds(api.Problem(p), x) }, nil},
+		{"model.Cost", func(p anyProblem, x []api.Rat) api.Rat { return model.Cost(api.Problem(p), x) }, nil},
+		{"model.Finite", func(p anyProblem) bool { return model.Finite(api.Problem(p)) }, nil},
+		{"model.Whole", func(p anyProblem) []bool { return model.Whole(api.Problem(p)) }, nil},
+		{"model.Objective", func(p anyProblem) []api.Term { return model.Objective(api.Problem(p)) }, nil},
+		{"model.Constraints", func(p anyProblem) []api.Cons { return model.Constraints(api.Problem(p)) }, nil},
+		{"cons.Form", cons.Form, nil},
+		{"cons.Holds", cons.Holds, nil},
+		{"cons.Combine", cons.Combine, errors(api.ErrArg, api.ErrRule)},
+		{"cons.Round", cons.Round, errors(api.ErrArg, api.ErrRule)},
+		{"cons.False", cons.False, nil},
+		{"cons.Dominates", cons.Dominates, nil},
+		{"cons.Split", cons.Split, nil},
+	}
+}
+
 // calls are all that stand now.
 func calls() []call {
 	var out []call
-	for _, list := range [][]call{callsOfWholes(), callsOfFractions(), callsOfVectors(), callsOfSquares(), callsOfTexts()} {
+	for _, list := range [][]call{callsOfWholes(), callsOfFractions(), callsOfVectors(), callsOfSquares(), callsOfTexts(), callsOfMeaning()} {
 		out = append(out, list...)
 	}
 	return out

@@ -100,6 +100,43 @@ func problems() []api.Problem {
 	return out
 }
 
+// anyProblems gives problems of any kind: such as a text may tell, and others.
+func anyProblems() []anyProblem {
+	var out []anyProblem
+	for _, p := range problems() {
+		out = append(out, anyProblem(p))
+	}
+	odd := api.Problem{Name: "odd"}
+	for i, v := range vectors() {
+		a, b := numbers()[i], numbers()[2*i+1]
+		odd.Rows = append(odd.Rows, api.Row{HasLo: i%3 > 0, HasHi: i%4 > 0, Lo: a, Hi: b, Terms: v}, api.Row{HasLo: true, HasHi: true, Lo: b, Hi: b, Terms: v})
+		odd.Vars = append(odd.Vars, api.Var{Whole: i%2 > 0, HasLo: i%4 > 0, HasHi: i%3 > 0, Lo: a, Hi: b, Cost: b})
+	}
+	out = append(out, anyProblem(odd))
+	for _, rows := range []string{"", "1 2 1@0 -1/2@1 7@2;", "- 4 1@0 2@2 1@9 -1@0; 3 - 1@1 1@1; 5 5 2@1; 3 1 ;"} {
+		for _, vars := range []string{"", "0 1 3;", "0 1 -1/2 whole; 0 5 7; - 4 0 whole;", "3 1 0; 0 - 1; 2 2 5;"} {
+			out = append(out, anyProblem(tell.Problem(rows, vars)))
+		}
+	}
+	return out
+}
+
+// constraints gives constraints in forms of all kinds, of all senses and of none.
+func constraints() []api.Cons {
+	out := tell.ConsList("2@0 <= 7; 1@0 >= 1; 1@0 = 5/2; 1@0 1@1 <= 3; 1@1 1@0 >= 4; <= 0; >= 1; = -1/2; 1/2@0 3@-1 = 1; 2@1 1@0 -2@1 <= -3/2; 1@0 0 1; 4 0; 1@5 -1 2;")
+	for i, v := range vectors() {
+		out = append(out, api.Cons{Sense: i % 5, Terms: v, Rhs: numbers()[2*i]})
+	}
+	return append(out, api.Cons{Sense: math.MaxInt}, api.Cons{Sense: math.MinInt, Rhs: numbers()[31]})
+}
+
+// constraintLists gives lists of constraints.
+func constraintLists() [][]api.Cons {
+	all := constraints()
+	out := [][]api.Cons{nil, {}, all[:1], all[1:2], all[2:3], all[10:11], all[:3], all[3:5], all[3:11], all}
+	return append(out, tell.ConsList("1@0 <= 1; 1@1 <= 1/2; -1@0 >= 2;"), tell.ConsList("2@3 <= 1; 1@1 -1@1 = 0;"), slices.Repeat(all[3:4], 8))
+}
+
 // numberTexts gives texts that are a number's, and such as aren't.
 func numberTexts() []string {
 	return []string{
@@ -132,6 +169,10 @@ func supply(of reflect.Type) []any {
 		anyOf(vectors()),
 		anyOf(matrices()),
 		anyOf(problems()),
+		anyOf(anyProblems()),
+		anyOf([][]bool{nil, {}, {true}, {false}, {true, true}, {false, true, true}, {true, false, true, true, true, true}}),
+		anyOf(constraints()),
+		anyOf(constraintLists()),
 	}
 	i := slices.IndexFunc(supplies, func(list []any) bool { return reflect.TypeOf(list[0]) == of })
 	return supplies[i]

@@ -57,3 +57,20 @@ func LooseRows(rows [][]api.Term, pick func(n int) int) [][]api.Term {
 	}
 	return out
 }
+
+// LooseCons gives a constraint in another form.
+func LooseCons(c api.Cons, pick func(n int) int) api.Cons {
+	return api.Cons{Sense: c.Sense, Terms: LooseVec(c.Terms, pick), Rhs: LooseRat(c.Rhs, pick)}
+}
+
+// LooseProblem gives a problem whose terms and numbers are in other forms.
+func LooseProblem(p api.Problem, pick func(n int) int) api.Problem {
+	p.Rows, p.Vars = slices.Clone(p.Rows), slices.Clone(p.Vars)
+	for i, w := range p.Rows {
+		p.Rows[i].Lo, p.Rows[i].Hi, p.Rows[i].Terms = LooseRat(w.Lo, pick), LooseRat(w.Hi, pick), LooseVec(w.Terms, pick)
+	}
+	for i, v := range p.Vars {
+		p.Vars[i].Lo, p.Vars[i].Hi, p.Vars[i].Cost = LooseRat(v.Lo, pick), LooseRat(v.Hi, pick), LooseRat(v.Cost, pick)
+	}
+	return p
+}

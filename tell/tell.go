@@ -1,6 +1,6 @@
-// Package tell reads and writes numbers, vectors and matrices as short texts, and gives them in other forms: the tests of the layers say by it what they mean. No layer calls it.
+// Package tell reads and writes numbers, vectors, matrices and constraints as short texts, and gives them in other forms: the tests of the layers say by it what they mean. No layer calls it.
 //
-// A vector is told as 1/2@0 -3@5, each number with its place; a matrix as 1@0; -3@5 7@6; with a semicolon behind each row.
+// A vector is told as 1/2@0 -3@5, each number with its place; a matrix as 1@0; -3@5 7@6; with a semicolon behind each row; a constraint as 1/2@0 -3@5 <= 7, and a list of them likewise with semicolons.
 package tell
 
 import (
@@ -48,14 +48,16 @@ func Vec(s string) []api.Term {
 // Rows reads a matrix.
 func Rows(s string) [][]api.Term {
 	var out [][]api.Term
-	for {
-		row, rest, found := strings.Cut(s, ";")
-		if !found {
-			return out
-		}
+	for _, row := range parts(s) {
 		out = append(out, Vec(row))
-		s = rest
 	}
+	return out
+}
+
+// parts gives what stands ahead of each semicolon.
+func parts(s string) []string {
+	list := strings.Split(s, ";")
+	return list[:len(list)-1]
 }
 
 // Gather gives lists of numbers as vectors in their one form.

@@ -29,6 +29,38 @@ func TestTexts(t *testing.T) {
 			t.Errorf("%q is told as %q", s, got)
 		}
 	}
+	for _, s := range []string{"", "1/2@0 -3@5 <= 7;", "= 0; 1@1 >= -1/3; 2@0 1@0 0 5; -4 5; 4 6;"} {
+		if got := tell.OfConsList(tell.ConsList(s)); got != s {
+			t.Errorf("%q is told as %q", s, got)
+		}
+	}
+}
+
+// Constraints have the senses that their words tell, and problems what stands in their texts.
+func TestConsAndProblem(t *testing.T) {
+	if a := tell.Cons("1@2 <= 7"); a.Sense != api.AtMost || tell.OfVec(a.Terms) != "1@2" || tell.OfRat(a.Rhs) != "7" || tell.Cons(">= 1").Sense != api.AtLeast || tell.Cons("= 1").Sense != api.Equal || tell.Cons("7 1").Sense != 7 {
+		t.Errorf("%v", a)
+	}
+	p := tell.Problem("1 - 2@0 3@1; - 4;", "0 - -1 whole; - 1/2 7; - - 0;")
+	if len(p.Rows) != 2 || len(p.Vars) != 3 || p.Obj == "" || p.Rows[0].Name == p.Rows[1].Name || p.Vars[0].Name == p.Vars[1].Name {
+		t.Fatalf("%v", p)
+	}
+	w, v := p.Rows[0], p.Vars[1]
+	if !w.HasLo || w.HasHi || tell.OfRats([]api.Rat{w.Lo, w.Hi}) != "1 0" || tell.OfVec(w.Terms) != "2@0 3@1" || len(p.Rows[1].Terms) != 0 {
+		t.Errorf("%v", p.Rows)
+	}
+	if !p.Vars[0].Whole || v.Whole || v.HasLo || !v.HasHi || tell.OfRats([]api.Rat{v.Lo, v.Hi, v.Cost}) != "0 1/2 7" {
+		t.Errorf("%v", p.Vars)
+	}
+	r := rand.New(rand.NewSource(7))
+	q := tell.LooseProblem(p, r.Intn)
+	if tell.OfVec(q.Rows[0].Terms) == "2@0 3@1" || tell.OfVec(vec.Make(q.Rows[0].Terms)) != "2@0 3@1" || rat.Cmp(q.Vars[1].Hi, v.Hi) != 0 || tell.OfVec(p.Rows[0].Terms) != "2@0 3@1" {
+		t.Errorf("%v", q)
+	}
+	a := tell.LooseCons(tell.Cons("1@2 >= 7"), r.Intn)
+	if a.Sense != api.AtLeast || tell.OfVec(vec.Make(a.Terms)) != "1@2" || tell.OfRat(rat.Form(a.Rhs)) != "7" || tell.OfCons(a) == "1@2 >= 7" {
+		t.Errorf("%v", a)
+	}
 }
 
 // Lists of numbers are vectors, and these in other forms are as many.
