@@ -15,6 +15,8 @@ import (
 	"cutwater/nat"
 	"cutwater/rat"
 	"cutwater/ratext"
+	"cutwater/ratio"
+	"cutwater/shape"
 	"cutwater/vec"
 	"cutwater/zint"
 )
@@ -181,10 +183,39 @@ func callsOfMeaning() []call {
 	}
 }
 
+// standing is a linear problem, and how its columns stand.
+type standing struct {
+	LP            api.LP
+	Basis, Status []int
+}
+
+// callsOfShapes are those of shape and ratio.
+func callsOfShapes() []call {
+	return []call{
+		{"shape.Make", func(p anyProblem) api.LP { return shape.Make(api.Problem(p)) }, nil},
+		{"shape.AddRow", shape.AddRow, errors(api.ErrArg)},
+		{"shape.SetBound", shape.SetBound, errors(api.ErrArg)},
+		{"shape.Check", func(s standing) api.Errno { return shape.Check(s.LP, s.Basis, s.Status) }, errors(api.ErrArg, api.ErrSingular)},
+		{"shape.Primal", func(s standing) ([]api.Rat, api.Errno) { return shape.Primal(s.LP, s.Basis, s.Status) }, errors(api.ErrArg, api.ErrSingular)},
+		{"shape.Duals", func(s standing) ([]api.Rat, []api.Rat, api.Errno) { return shape.Duals(s.LP, s.Basis, s.Status) }, errors(api.ErrArg, api.ErrSingular)},
+		{"shape.Tableau", func(s standing, place int) ([]api.Rat, api.Errno) {
+			return shape.Tableau(s.LP, s.Basis, s.Status, place)
+		}, errors(api.ErrArg, api.ErrSingular)},
+		{"shape.Start", shape.Start, errors(api.ErrArg, api.ErrFree)},
+		{"ratio.Leave", func(s standing, x []api.Rat, first bool) (int, bool, bool) {
+			return ratio.Leave(s.LP, s.Basis, x, first)
+		}, nil},
+		{"ratio.Enter", func(s standing, d, row []api.Rat, t ratio.Turn) (int, []int, bool) {
+			return ratio.Enter(s.LP, s.Status, d, row, t)
+		}, nil},
+		{"ratio.Feasible", func(s standing, d []api.Rat) bool { return ratio.Feasible(s.LP, s.Status, d) }, nil},
+	}
+}
+
 // calls are all that stand now.
 func calls() []call {
 	var out []call
-	for _, list := range [][]call{callsOfWholes(), callsOfFractions(), callsOfVectors(), callsOfSquares(), callsOfTexts(), callsOfMeaning()} {
+	for _, list := range [][]call{callsOfWholes(), callsOfFractions(), callsOfVectors(), callsOfSquares(), callsOfTexts(), callsOfMeaning(), callsOfShapes()} {
 		out = append(out, list...)
 	}
 	return out

@@ -2,6 +2,7 @@ package rules
 
 import (
 	"math"
+	"math/rand"
 	"reflect"
 	"slices"
 	"strconv"
@@ -9,6 +10,7 @@ import (
 
 	"cutwater/api"
 	"cutwater/mps"
+	"cutwater/ratio"
 	"cutwater/tell"
 )
 
@@ -137,6 +139,45 @@ func constraintLists() [][]api.Cons {
 	return append(out, tell.ConsList("1@0 <= 1; 1@1 <= 1/2; -1@0 >= 2;"), tell.ConsList("2@3 <= 1; 1@1 -1@1 = 0;"), slices.Repeat(all[3:4], 8))
 }
 
+// linears gives linear problems, and such as have something wrong.
+func linears() []api.LP {
+	out := []api.LP{{}, {N: -1}, {N: math.MaxInt}, tell.LP("0 4 -1 2@0;", "- 3;"), tell.LP("0 1 1; 0 - -1;", ""), tell.LP("", "1 2; - -;"), tell.LP("0 4 -1 2@0 1/2@1; - - 3; 1 - 0 -1@1;", "- 3; 1 2;")}
+	out = append(out, tell.LP("1 1 1/2 1@0; 3 1 -1 100000000000000000000@0 -1/3@1; -1 1 0 1@1;", "5 5; - 7;"), tell.LP("0 4 -1 2@0 1@2;", "- 3;"), tell.LP("0 4 -1 2@0;", "- 3;"))
+	out[len(out)-1].Cost[1] = tell.Rat("1")
+	r := rand.New(rand.NewSource(3))
+	for range 6 {
+		out = append(out, tell.ChanceLP(r.Intn))
+	}
+	return out
+}
+
+// standings gives linear problems whose columns stand rightly, and others.
+func standings() []standing {
+	var out []standing
+	r := rand.New(rand.NewSource(4))
+	for i, l := range linears() {
+		out = append(out, standing{l, []int{i % 3}, tell.Status("lbhf"[:i%5])})
+		if l.N < 0 || l.N > len(l.Cols) {
+			continue
+		}
+		for range 8 {
+			basis, status := tell.ChanceStand(l, r.Intn)
+			out = append(out, standing{l, basis, status})
+		}
+	}
+	twice := tell.LP("0 4 -1 2@0; 0 1 0 1@0;", "- 3; 1 2;")
+	return append(out, standing{twice, []int{0, 1}, tell.Status("bblh")}, standing{twice, []int{0, 3}, tell.Status("blhb")}, standing{twice, []int{0, 0}, tell.Status("blhb")})
+}
+
+// turns gives what a column that leaves is to reach.
+func turns() []ratio.Turn {
+	var out []ratio.Turn
+	for i, a := range numbers()[:20] {
+		out = append(out, ratio.Turn{Up: i%2 > 0, Short: a, Flip: i%4 > 1})
+	}
+	return out
+}
+
 // numberTexts gives texts that are a number's, and such as aren't.
 func numberTexts() []string {
 	return []string{
@@ -173,6 +214,9 @@ func supply(of reflect.Type) []any {
 		anyOf([][]bool{nil, {}, {true}, {false}, {true, true}, {false, true, true}, {true, false, true, true, true, true}}),
 		anyOf(constraints()),
 		anyOf(constraintLists()),
+		anyOf(linears()),
+		anyOf(standings()),
+		anyOf(turns()),
 	}
 	i := slices.IndexFunc(supplies, func(list []any) bool { return reflect.TypeOf(list[0]) == of })
 	return supplies[i]

@@ -2,6 +2,8 @@ package tell_test
 
 import (
 	"math/rand"
+	"slices"
+	"strings"
 	"testing"
 
 	"cutwater/api"
@@ -126,5 +128,26 @@ func TestLoose(t *testing.T) {
 				t.Errorf("%v at the place %d", sum, col)
 			}
 		}
+	}
+}
+
+// Linear problems have what their texts tell, and are written so again.
+func TestLP(t *testing.T) {
+	for _, c := range [][2]string{{"", ""}, {"0 4 -1 2@0;", "- 3;"}, {"- - 1/2; 1 - 0 1@1 -1/3@0;", "0 0; - -;"}, {"0 1 2;", ""}, {"", "1 2;"}} {
+		l := tell.LP(c[0], c[1])
+		if got, want := tell.OfLP(l), strings.TrimSpace(strings.TrimSpace(c[0]+" |")+" "+c[1]); got != want {
+			t.Errorf("%q is told as %q", want, got)
+		}
+	}
+	l := tell.LP("0 4 -1 2@0;", "- 3;")
+	if l.N != 1 || len(l.Cols) != 2 || tell.OfRows(l.Cols) != "2@0; -1@0;" || !l.HasLo[0] || !l.HasHi[0] || l.HasLo[1] || !l.HasHi[1] || tell.OfRats(l.Lo) != "0 0" || tell.OfRats(l.Hi) != "4 3" || tell.OfRats(l.Cost) != "-1 0" {
+		t.Errorf("%v", l)
+	}
+	l.Lo[1], l.Cost[1] = api.Rat{}, tell.Rat("5")
+	if got, want := tell.OfLP(l), "0 4 -1 2@0; | -0? 3 5 -1@0;"; got != want {
+		t.Errorf("%q, not %q", got, want)
+	}
+	if got := tell.Status("lhbf?"); !slices.Equal(got, []int{api.AtLo, api.AtHi, api.Basic, api.Free, 0}) || tell.OfStatus(append(got, -1, 5)) != "lhbf???" {
+		t.Errorf("%v", got)
 	}
 }
