@@ -7,6 +7,7 @@ import (
 
 	"cutwater/api"
 	"cutwater/cons"
+	"cutwater/dual"
 	"cutwater/fields"
 	"cutwater/lu"
 	"cutwater/mat"
@@ -189,7 +190,7 @@ type standing struct {
 	Basis, Status []int
 }
 
-// callsOfShapes are those of shape and ratio.
+// callsOfShapes are those of shape, ratio and dual.
 func callsOfShapes() []call {
 	return []call{
 		{"shape.Make", func(p anyProblem) api.LP { return shape.Make(api.Problem(p)) }, nil},
@@ -209,6 +210,9 @@ func callsOfShapes() []call {
 			return ratio.Enter(s.LP, s.Status, d, row, t)
 		}, nil},
 		{"ratio.Feasible", func(s standing, d []api.Rat) bool { return ratio.Feasible(s.LP, s.Status, d) }, nil},
+		{"dual.Solve", func(s standing, o api.LPOptions) (api.LPAnswer, api.Errno) {
+			return dual.Solve(s.LP, s.Basis, s.Status, o)
+		}, errors(api.ErrArg, api.ErrSingular, api.ErrBounds, api.ErrRule)},
 	}
 }
 

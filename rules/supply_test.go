@@ -11,6 +11,7 @@ import (
 	"cutwater/api"
 	"cutwater/mps"
 	"cutwater/ratio"
+	"cutwater/shape"
 	"cutwater/tell"
 )
 
@@ -151,7 +152,7 @@ func linears() []api.LP {
 	return out
 }
 
-// standings gives linear problems whose columns stand rightly, and others.
+// standings gives linear problems whose columns stand rightly, some of them with right reduced costs, and others.
 func standings() []standing {
 	var out []standing
 	r := rand.New(rand.NewSource(4))
@@ -163,6 +164,9 @@ func standings() []standing {
 		for range 8 {
 			basis, status := tell.ChanceStand(l, r.Intn)
 			out = append(out, standing{l, basis, status})
+			if _, d, e := shape.Duals(l, basis, status); e == api.OK {
+				out = append(out, standing{l, basis, tell.Suit(l, status, d)})
+			}
 		}
 	}
 	twice := tell.LP("0 4 -1 2@0; 0 1 0 1@0;", "- 3; 1 2;")
@@ -176,6 +180,11 @@ func turns() []ratio.Turn {
 		out = append(out, ratio.Turn{Up: i%2 > 0, Short: a, Flip: i%4 > 1})
 	}
 	return out
+}
+
+// options gives ways to solve linear problems.
+func options() []api.LPOptions {
+	return []api.LPOptions{{Most: -1}, {First: true, Most: -1}, {}, {Most: 1}, {First: true, Most: 2}, {Most: math.MaxInt}, {Most: math.MinInt}}
 }
 
 // numberTexts gives texts that are a number's, and such as aren't.
@@ -217,6 +226,7 @@ func supply(of reflect.Type) []any {
 		anyOf(linears()),
 		anyOf(standings()),
 		anyOf(turns()),
+		anyOf(options()),
 	}
 	i := slices.IndexFunc(supplies, func(list []any) bool { return reflect.TypeOf(list[0]) == of })
 	return supplies[i]

@@ -74,3 +74,18 @@ func ChanceStand(l api.LP, pick func(n int) int) (basis, status []int) {
 	}
 	return basis, status
 }
+
+// Suit gives how the columns stand, if each that isn't in the basis goes to the bound that suits its reduced cost, where it has that.
+func Suit(l api.LP, status []int, d []api.Rat) []int {
+	out := slices.Clone(status)
+	for col, stands := range status {
+		switch sign := rat.Sign(d[col]); {
+		case stands == api.Basic:
+		case sign > 0 && l.HasLo[col]:
+			out[col] = api.AtLo
+		case sign < 0 && l.HasHi[col]:
+			out[col] = api.AtHi
+		}
+	}
+	return out
+}

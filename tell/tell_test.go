@@ -151,3 +151,14 @@ func TestLP(t *testing.T) {
 		t.Errorf("%v", got)
 	}
 }
+
+// Columns go to the bounds that suit their reduced costs, where they have these.
+func TestSuit(t *testing.T) {
+	l := tell.LP("0 1 0; 0 1 0; 0 1 0; 0 - 0; - 1 0; - - 0; 0 1 0;", "")
+	for _, c := range [][3]string{{"lhllhfb", "1 1 0 -1 1 1 1", "llllhfb"}, {"lhllhfb", "-1 -1 0 1 -1 -1 -1", "hhllhfb"}, {"hhhlhfb", "0 0 0 0 0 0 0", "hhhlhfb"}} {
+		status := tell.Status(c[0])
+		if tell.OfStatus(tell.Suit(l, status, tell.Rats(c[1]))) != c[2] || tell.OfStatus(status) != c[0] {
+			t.Errorf("%s at %s: %s", c[0], c[1], tell.OfStatus(tell.Suit(l, status, tell.Rats(c[1]))))
+		}
+	}
+}
