@@ -7,6 +7,7 @@ import (
 
 	"cutwater/api"
 	"cutwater/cons"
+	"cutwater/derive"
 	"cutwater/dual"
 	"cutwater/fields"
 	"cutwater/lu"
@@ -14,6 +15,7 @@ import (
 	"cutwater/model"
 	"cutwater/mps"
 	"cutwater/nat"
+	"cutwater/propag"
 	"cutwater/rat"
 	"cutwater/ratext"
 	"cutwater/ratio"
@@ -216,10 +218,22 @@ func callsOfShapes() []call {
 	}
 }
 
+// callsOfProofs are those of derive and propag.
+func callsOfProofs() []call {
+	return []call{
+		{"derive.Bound", derive.Bound, errors(api.ErrArg)},
+		{"derive.Sum", derive.Sum, errors(api.ErrArg, api.ErrRule)},
+		{"derive.Best", derive.Best, nil},
+		{"derive.None", derive.None, nil},
+		{"propag.Tighten", propag.Tighten, nil},
+		{"propag.All", propag.All, errors(api.ErrArg)},
+	}
+}
+
 // calls are all that stand now.
 func calls() []call {
 	var out []call
-	for _, list := range [][]call{callsOfWholes(), callsOfFractions(), callsOfVectors(), callsOfSquares(), callsOfTexts(), callsOfMeaning(), callsOfShapes()} {
+	for _, list := range [][]call{callsOfWholes(), callsOfFractions(), callsOfVectors(), callsOfSquares(), callsOfTexts(), callsOfMeaning(), callsOfShapes(), callsOfProofs()} {
 		out = append(out, list...)
 	}
 	return out

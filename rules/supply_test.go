@@ -187,6 +187,28 @@ func options() []api.LPOptions {
 	return []api.LPOptions{{Most: -1}, {First: true, Most: -1}, {}, {Most: 1}, {First: true, Most: 2}, {Most: math.MaxInt}, {Most: math.MinInt}}
 }
 
+// useLists gives uses of bounds, such as are there and others.
+func useLists() [][]api.Use {
+	out := [][]api.Use{nil, {}, {{}}, {{Col: -1}, {Col: math.MaxInt, Upper: true}, {Col: math.MinInt}}}
+	for _, s := range []string{"-2@0h", "1@0l", "1/2@1h -1@0l", "-1/2@1h 1@0l", "1@0l -1@0h -1/3@1h", "1@2l 0@0l -100000000000000000000@3h", "1@0l 1@9l"} {
+		out = append(out, tell.Uses(s))
+	}
+	return append(out, []api.Use{{Col: 0, Often: numbers()[33]}, {Col: 1, Upper: true, Often: numbers()[31]}})
+}
+
+// answers gives answers to linear problems, and such as are none.
+func answers() []api.LPAnswer {
+	out := []api.LPAnswer{{}, {State: api.LPNone, Col: math.MaxInt}, {State: api.LPNone, Col: -1, Row: tell.Rats("1 2"), Status: []int{1, 2}}}
+	for i := range 12 {
+		a := api.LPAnswer{State: api.LPNone, Basis: []int{i}, Col: i % 3, Up: i%2 > 0, Status: tell.Status("lbhfblh"[:1+i%6])}
+		for k := range a.Status {
+			a.Row = append(a.Row, numbers()[(7*i+5*k)%36])
+		}
+		out = append(out, a)
+	}
+	return out
+}
+
 // numberTexts gives texts that are a number's, and such as aren't.
 func numberTexts() []string {
 	return []string{
@@ -227,6 +249,8 @@ func supply(of reflect.Type) []any {
 		anyOf(standings()),
 		anyOf(turns()),
 		anyOf(options()),
+		anyOf(useLists()),
+		anyOf(answers()),
 	}
 	i := slices.IndexFunc(supplies, func(list []any) bool { return reflect.TypeOf(list[0]) == of })
 	return supplies[i]

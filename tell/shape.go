@@ -81,3 +81,27 @@ func OfStatus(list []int) string {
 	}
 	return out
 }
+
+// Uses reads uses of bounds: 1/2@3l -1@0h are half of the Lo of the column 3, and the Hi of the column 0, -1 times.
+func Uses(s string) []api.Use {
+	var out []api.Use
+	for _, word := range strings.Fields(s) {
+		last := len(word) - 1
+		term := Vec(word[:last])[0]
+		out = append(out, api.Use{Col: term.Col, Upper: word[last:] == "h", Often: term.Val})
+	}
+	return out
+}
+
+// OfUses writes uses of bounds.
+func OfUses(list []api.Use) string {
+	var words []string
+	for _, u := range list {
+		side := "l"
+		if u.Upper {
+			side = "h"
+		}
+		words = append(words, OfVec([]api.Term{{Col: u.Col, Val: u.Often}})+side)
+	}
+	return strings.Join(words, " ")
+}

@@ -38,6 +38,18 @@ func TestTexts(t *testing.T) {
 	}
 }
 
+// Uses are of the bound that their letter tells.
+func TestUses(t *testing.T) {
+	for _, s := range []string{"", "1/2@3l -1@0h", "0@-1h 7@3l"} {
+		if got := tell.OfUses(tell.Uses(s)); got != s {
+			t.Errorf("%q is told as %q", s, got)
+		}
+	}
+	if u := tell.Uses("1/2@3l -1@0h"); len(u) != 2 || u[0].Upper || !u[1].Upper || u[0].Col != 3 || tell.OfRat(u[1].Often) != "-1" {
+		t.Errorf("%v", u)
+	}
+}
+
 // Constraints have the senses that their words tell, and problems what stands in their texts.
 func TestConsAndProblem(t *testing.T) {
 	if a := tell.Cons("1@2 <= 7"); a.Sense != api.AtMost || tell.OfVec(a.Terms) != "1@2" || tell.OfRat(a.Rhs) != "7" || tell.Cons(">= 1").Sense != api.AtLeast || tell.Cons("= 1").Sense != api.Equal || tell.Cons("7 1").Sense != 7 {
