@@ -6,15 +6,18 @@ import (
 	"reflect"
 
 	"cutwater/api"
+	"cutwater/cgcut"
 	"cutwater/cons"
 	"cutwater/derive"
 	"cutwater/dual"
 	"cutwater/fields"
+	"cutwater/gmi"
 	"cutwater/lu"
 	"cutwater/mat"
 	"cutwater/model"
 	"cutwater/mps"
 	"cutwater/nat"
+	"cutwater/pool"
 	"cutwater/propag"
 	"cutwater/rat"
 	"cutwater/ratext"
@@ -230,10 +233,53 @@ func callsOfProofs() []call {
 	}
 }
 
+// wholes is a linear problem, how its columns stand, and which of its variables are whole.
+type wholes struct {
+	LP            api.LP
+	Basis, Status []int
+	Whole         []bool
+}
+
+// callsOfCuts are those of cgcut, gmi and pool.
+func callsOfCuts() []call {
+	filled := func(patience int, list []api.Cons) *pool.Pool {
+		p := pool.New(patience)
+		for _, c := range list {
+			p.Add(c)
+		}
+		return p
+	}
+	return []call{
+		{"cgcut.Even", func(s standing, whole []bool, col int) bool { return cgcut.Even(s.LP, whole, s.Status, col) }, nil},
+		{"cgcut.Cut", func(w wholes, place int) (api.Cons, []api.Use, bool) {
+			return cgcut.Cut(w.LP, w.Whole, w.Basis, w.Status, place)
+		}, nil},
+		{"gmi.Cut", func(w wholes, place int) (api.SplitCut, bool) {
+			return gmi.Cut(w.LP, w.Whole, w.Basis, w.Status, place)
+		}, nil},
+		{"gmi.Sides", gmi.Sides, errors(api.ErrArg, api.ErrRule)},
+		{"gmi.High", gmi.High, nil},
+		{"pool.Scale", pool.Scale, nil},
+		{"pool.Add", func(patience int, list []api.Cons, c api.Cons) (bool, bool, int, []api.Cons, []api.Cons) {
+			p := filled(patience, list)
+			return p.Add(c), p.Add(c), p.Len(), p.Cuts(), p.Cuts()
+		}, nil},
+		{"pool.Broken", func(list []api.Cons, x []api.Rat) ([]int, []int) {
+			p := filled(0, list)
+			return p.Broken(x), p.Broken(x)
+		}, nil},
+		{"pool.Age", func(patience int, list []api.Cons, x []api.Rat) (int, []api.Cons, int, []api.Cons) {
+			p := filled(patience, list)
+			first, cuts := p.Age(x), p.Cuts()
+			return first, cuts, p.Age(x), p.Cuts()
+		}, nil},
+	}
+}
+
 // calls are all that stand now.
 func calls() []call {
 	var out []call
-	for _, list := range [][]call{callsOfWholes(), callsOfFractions(), callsOfVectors(), callsOfSquares(), callsOfTexts(), callsOfMeaning(), callsOfShapes(), callsOfProofs()} {
+	for _, list := range [][]call{callsOfWholes(), callsOfFractions(), callsOfVectors(), callsOfSquares(), callsOfTexts(), callsOfMeaning(), callsOfShapes(), callsOfProofs(), callsOfCuts()} {
 		out = append(out, list...)
 	}
 	return out

@@ -7,8 +7,10 @@ import (
 	"slices"
 	"strconv"
 	"strings"
+	"sync"
 
 	"cutwater/api"
+	"cutwater/gmi"
 	"cutwater/mps"
 	"cutwater/ratio"
 	"cutwater/shape"
@@ -173,6 +175,27 @@ func standings() []standing {
 	return append(out, standing{twice, []int{0, 1}, tell.Status("bblh")}, standing{twice, []int{0, 3}, tell.Status("blhb")}, standing{twice, []int{0, 0}, tell.Status("blhb")})
 }
 
+// manyWholes gives linear problems of which cuts can be made, and others.
+func manyWholes() []wholes {
+	var out, cut []wholes
+	for i, s := range standings() {
+		out = append(out, wholes{s.LP, s.Basis, s.Status, make([]bool, i%8)})
+	}
+	r := rand.New(rand.NewSource(5))
+	for len(cut) < 80 {
+		l := tell.Rounded(tell.ChanceLP(r.Intn))
+		basis, status := tell.ChanceStand(l, r.Intn)
+		w := wholes{l, basis, status, make([]bool, l.N)}
+		for col := range w.Whole {
+			w.Whole[col] = r.Intn(5) > 0
+		}
+		if _, found := gmi.Cut(w.LP, w.Whole, w.Basis, w.Status, len(cut)%3); found {
+			cut = append(cut, w)
+		}
+	}
+	return append(out, cut...)
+}
+
 // turns gives what a column that leaves is to reach.
 func turns() []ratio.Turn {
 	var out []ratio.Turn
@@ -209,6 +232,18 @@ func answers() []api.LPAnswer {
 	return out
 }
 
+// splitCuts gives what proves a cut on each side of a split, and such as proves none.
+func splitCuts() []api.SplitCut {
+	out := []api.SplitCut{{}, {Low: tell.Cons("1@0 <= 2"), LowOften: tell.Rat("-1"), HighOften: tell.Rat("1/2")}}
+	for i, c := range constraints()[:12] {
+		out = append(out, api.SplitCut{Low: c, LowOften: numbers()[3*i], HighOften: numbers()[2*i+1], LowUses: useLists()[i%12], HighUses: useLists()[(i+5)%12]})
+	}
+	for i, uses := range useLists() {
+		out = append(out, api.SplitCut{Low: tell.Cons("-1@1 1@0 <= 3"), LowOften: tell.Rat("-2/3"), HighOften: tell.Rat("2"), LowUses: uses, HighUses: useLists()[(5*i+2)%12]})
+	}
+	return out
+}
+
 // numberTexts gives texts that are a number's, and such as aren't.
 func numberTexts() []string {
 	return []string{
@@ -226,9 +261,9 @@ func anyOf[T any](list []T) []any {
 	return out
 }
 
-// supply gives what is handed in where a call takes a value of that type.
-func supply(of reflect.Type) []any {
-	supplies := [][]any{
+// supplies are lists of values, one for each type that a call takes; they are made but once.
+var supplies = sync.OnceValue(func() [][]any {
+	return [][]any{
 		anyOf([]bool{false, true}),
 		anyOf([]int{0, 1, -1, 2, 3, 6, 63, 64, 65, api.MaxShift, api.MaxShift + 1, math.MaxInt, math.MinInt}),
 		anyOf([]int64{0, 1, -1, 12, -18, 1 << 40, math.MaxInt64, math.MinInt64}),
@@ -247,11 +282,17 @@ func supply(of reflect.Type) []any {
 		anyOf(constraintLists()),
 		anyOf(linears()),
 		anyOf(standings()),
+		anyOf(manyWholes()),
 		anyOf(turns()),
 		anyOf(options()),
 		anyOf(useLists()),
 		anyOf(answers()),
+		anyOf(splitCuts()),
 	}
-	i := slices.IndexFunc(supplies, func(list []any) bool { return reflect.TypeOf(list[0]) == of })
-	return supplies[i]
+})
+
+// supply gives what is handed in where a call takes a value of that type.
+func supply(of reflect.Type) []any {
+	i := slices.IndexFunc(supplies(), func(list []any) bool { return reflect.TypeOf(list[0]) == of })
+	return supplies()[i]
 }

@@ -89,3 +89,26 @@ func Suit(l api.LP, status []int, d []api.Rat) []int {
 	}
 	return out
 }
+
+// Rounded gives a right linear problem with all its numbers rounded down.
+func Rounded(l api.LP) api.LP {
+	round := func(list []api.Rat) []api.Rat {
+		var out []api.Rat
+		for _, a := range list {
+			out = append(out, rat.OfInt(rat.Floor(a)))
+		}
+		return out
+	}
+	out := l
+	out.Lo, out.Hi, out.Cost, out.Cols = round(l.Lo), round(l.Hi), round(l.Cost), nil
+	for _, terms := range l.Cols {
+		var col []api.Term
+		for _, t := range terms {
+			if a := rat.OfInt(rat.Floor(t.Val)); rat.Sign(a) != 0 {
+				col = append(col, api.Term{Col: t.Col, Val: a})
+			}
+		}
+		out.Cols = append(out.Cols, col)
+	}
+	return out
+}

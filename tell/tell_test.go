@@ -174,3 +174,12 @@ func TestSuit(t *testing.T) {
 		}
 	}
 }
+
+// A linear problem is rounded in all its numbers, and stays as it was.
+func TestRounded(t *testing.T) {
+	was := "-1/2 7/2 -1/3 5/2@0 1/2@1; - 9 1; | - 3/2; 1 -;"
+	l := tell.LP("-1/2 7/2 -1/3 5/2@0 1/2@1; - 9 1;", "- 3/2; 1 -;")
+	if got, want := tell.OfLP(tell.Rounded(l)), "-1 3 -1 2@0; - 9 1; | - 1; 1 -;"; got != want || tell.OfLP(l) != was {
+		t.Errorf("%s, not %s; %s", got, want, tell.OfLP(l))
+	}
+}
