@@ -6,6 +6,7 @@ import (
 	"reflect"
 
 	"cutwater/api"
+	"cutwater/branch"
 	"cutwater/cgcut"
 	"cutwater/cons"
 	"cutwater/derive"
@@ -19,6 +20,7 @@ import (
 	"cutwater/nat"
 	"cutwater/pool"
 	"cutwater/propag"
+	"cutwater/queue"
 	"cutwater/rat"
 	"cutwater/ratext"
 	"cutwater/ratio"
@@ -276,10 +278,106 @@ func callsOfCuts() []call {
 	}
 }
 
+// lesson is what a brancher is told.
+type lesson struct {
+	Col        int
+	Up         bool
+	Step, Gain api.Rat
+}
+
+// callsOfTrees are those of queue and branch.
+func callsOfTrees() []call {
+	return []call{
+		{"queue.Pop", func(order int, list []api.Node) ([]api.Node, api.Errno) {
+			q, e := waiting(order, list)
+			return drained(q), e
+		}, errors(api.ErrArg)},
+		{"queue.Least", func(order int, list []api.Node) (api.Rat, api.Rat, bool, int, []api.Node, api.Errno) {
+			q, e := waiting(order, list)
+			if e != api.OK {
+				return api.Rat{}, api.Rat{}, false, 0, nil, e
+			}
+			first, _ := q.Least()
+			second, found := q.Least()
+			return first, second, found, q.Len(), drained(q), e
+		}, errors(api.ErrArg)},
+		{"queue.Prune", func(order int, list []api.Node, limit api.Rat) ([]int, []int, int, []api.Node, api.Errno) {
+			q, e := waiting(order, list)
+			if e != api.OK {
+				return nil, nil, 0, nil, e
+			}
+			return q.Prune(limit), q.Prune(limit), q.Len(), drained(q), e
+		}, errors(api.ErrArg)},
+		{"branch.Learn", func(rule int, list []lesson, l lesson) (bool, bool, []api.Rat, api.Errno) {
+			b, _, e := taught(rule, list)
+			if e != api.OK {
+				return false, false, nil, e
+			}
+			half := api.Rat{Num: api.Int{Abs: []uint64{1}}, Den: []uint64{2}}
+			return b.Learn(l.Col, l.Up, l.Step, l.Gain), b.Learn(l.Col, l.Up, l.Step, l.Gain), []api.Rat{b.Score(l.Col, half), b.Score(0, half)}, e
+		}, errors(api.ErrArg)},
+		{"branch.Score", func(rule int, list []lesson, col int, part api.Rat) ([]bool, []api.Rat, api.Errno) {
+			b, took, e := taught(rule, list)
+			if e != api.OK {
+				return nil, nil, e
+			}
+			return took, []api.Rat{b.Score(col, part), b.Score(col, part)}, e
+		}, errors(api.ErrArg)},
+		{"branch.Choose", func(rule int, list []lesson, whole []bool, x []api.Rat) (int, bool, api.Errno) {
+			b, _, e := taught(rule, list)
+			if e != api.OK {
+				return 0, false, e
+			}
+			col, found := b.Choose(whole, x)
+			return col, found, e
+		}, errors(api.ErrArg)},
+	}
+}
+
+// waiting gives a queue in which these nodes wait.
+func waiting(order int, list []api.Node) (*queue.Queue, api.Errno) {
+	q, e := queue.New(order)
+	if e != api.OK {
+		return q, e
+	}
+	for _, n := range list {
+		q.Push(n)
+	}
+	return q, e
+}
+
+// drained takes all nodes out, and what comes when nobody waits; of no queue nothing.
+func drained(q *queue.Queue) []api.Node {
+	if q == nil {
+		return nil
+	}
+	var out []api.Node
+	for {
+		n, found := q.Pop()
+		out = append(out, n)
+		if !found {
+			return out
+		}
+	}
+}
+
+// taught gives a brancher that was told these, and which ones it learned.
+func taught(rule int, list []lesson) (*branch.Brancher, []bool, api.Errno) {
+	b, e := branch.New(rule)
+	if e != api.OK {
+		return b, nil, e
+	}
+	var took []bool
+	for _, l := range list {
+		took = append(took, b.Learn(l.Col, l.Up, l.Step, l.Gain))
+	}
+	return b, took, e
+}
+
 // calls are all that stand now.
 func calls() []call {
 	var out []call
-	for _, list := range [][]call{callsOfWholes(), callsOfFractions(), callsOfVectors(), callsOfSquares(), callsOfTexts(), callsOfMeaning(), callsOfShapes(), callsOfProofs(), callsOfCuts()} {
+	for _, list := range [][]call{callsOfWholes(), callsOfFractions(), callsOfVectors(), callsOfSquares(), callsOfTexts(), callsOfMeaning(), callsOfShapes(), callsOfProofs(), callsOfCuts(), callsOfTrees()} {
 		out = append(out, list...)
 	}
 	return out

@@ -244,6 +244,37 @@ func splitCuts() []api.SplitCut {
 	return out
 }
 
+// nodeLists gives nodes that are to wait.
+func nodeLists() [][]api.Node {
+	out := [][]api.Node{nil, {}, {{}}, {{Id: math.MaxInt, Depth: math.MinInt}, {Id: math.MinInt, Depth: math.MaxInt}}}
+	for _, s := range []string{"1 0 1/2;", "1 1 3; 2 2 3; 3 0 2;", "1 1 1; 1 1 1; 1 1 1;", "3 0 -1/2; 2 5 7/3; 7 2 -1/2; 2 2 100000000000000000000; 4 5 0; 6 0 0;"} {
+		out = append(out, tell.Nodes(s))
+	}
+	var many []api.Node
+	for i, a := range numbers() {
+		many = append(many, api.Node{Id: i * 5 % 7, Depth: i % 4, Least: a})
+	}
+	return append(out, many[12:17], many)
+}
+
+// lessons gives what a brancher is told, and such as it refuses.
+func lessons() []lesson {
+	out := []lesson{{}, {Col: -1, Step: tell.Rat("1"), Gain: tell.Rat("1")}, {Col: math.MaxInt, Up: true, Step: tell.Rat("1"), Gain: tell.Rat("5")}, {Col: math.MinInt, Step: tell.Rat("1")}}
+	for i, a := range numbers() {
+		out = append(out, lesson{Col: i % 3, Up: i%4 > 1, Step: a, Gain: numbers()[(5*i+2)%36]})
+	}
+	for i, s := range []string{"1/3 2", "1/2 0", "2/3 -1", "0 1", "-1/4 1"} {
+		out = append(out, lesson{Col: i % 2, Up: i%3 > 0, Step: tell.Rats(s)[0], Gain: tell.Rats(s)[1]})
+	}
+	return out
+}
+
+// lessonLists gives lists of these.
+func lessonLists() [][]lesson {
+	all := lessons()
+	return [][]lesson{nil, {}, all[:4], all[4:10], all[10:20], all[40:], slices.Repeat(all[40:41], 3), all}
+}
+
 // numberTexts gives texts that are a number's, and such as aren't.
 func numberTexts() []string {
 	return []string{
@@ -288,6 +319,9 @@ var supplies = sync.OnceValue(func() [][]any {
 		anyOf(useLists()),
 		anyOf(answers()),
 		anyOf(splitCuts()),
+		anyOf(nodeLists()),
+		anyOf(lessons()),
+		anyOf(lessonLists()),
 	}
 })
 

@@ -38,6 +38,18 @@ func TestTexts(t *testing.T) {
 	}
 }
 
+// Nodes have what their words tell, in that order.
+func TestNodes(t *testing.T) {
+	for _, s := range []string{"", "5 2 1/3;", "-9223372036854775808 9223372036854775807 -7; 0 0 0;"} {
+		if got := tell.OfNodes(tell.Nodes(s)); got != s {
+			t.Errorf("%q is told as %q", s, got)
+		}
+	}
+	if n := tell.Nodes("1 1 1; 5 2 1/3;")[1]; n.Id != 5 || n.Depth != 2 || tell.OfRat(n.Least) != "1/3" {
+		t.Errorf("%v", n)
+	}
+}
+
 // Uses are of the bound that their letter tells.
 func TestUses(t *testing.T) {
 	for _, s := range []string{"", "1/2@3l -1@0h", "0@-1h 7@3l"} {

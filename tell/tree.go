@@ -1,0 +1,32 @@
+package tell
+
+import (
+	"strconv"
+	"strings"
+
+	"cutwater/api"
+)
+
+// Nodes reads a list of nodes: 5 2 1/3; is the node 5, at the depth 2, that costs at least 1/3.
+func Nodes(s string) []api.Node {
+	var out []api.Node
+	for _, n := range parts(s) {
+		words := strings.Fields(n)
+		id, err := strconv.Atoi(words[0])
+		depth, other := strconv.Atoi(words[1])
+		if err != nil || other != nil {
+			panic("not a node: " + n)
+		}
+		out = append(out, api.Node{Id: id, Depth: depth, Least: Rat(words[2])})
+	}
+	return out
+}
+
+// OfNodes writes a list of nodes.
+func OfNodes(list []api.Node) string {
+	var words []string
+	for _, n := range list {
+		words = append(words, strconv.Itoa(n.Id)+" "+strconv.Itoa(n.Depth)+" "+OfRat(n.Least)+";")
+	}
+	return strings.Join(words, " ")
+}
