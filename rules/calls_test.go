@@ -7,6 +7,7 @@ import (
 
 	"cutwater/api"
 	"cutwater/branch"
+	"cutwater/cert"
 	"cutwater/cgcut"
 	"cutwater/cons"
 	"cutwater/derive"
@@ -26,6 +27,7 @@ import (
 	"cutwater/ratio"
 	"cutwater/shape"
 	"cutwater/vec"
+	"cutwater/vipr"
 	"cutwater/zint"
 )
 
@@ -374,10 +376,22 @@ func taught(rule int, list []lesson) (*branch.Brancher, []bool, api.Errno) {
 	return b, took, e
 }
 
+// callsOfCertificates are those of cert and vipr.
+func callsOfCertificates() []call {
+	return []call{
+		{"cert.Check", cert.Check, errors(api.ErrArg)},
+		{"cert.Print", cert.Print, errors(api.ErrArg)},
+		{"vipr.Parse", func(text string) (api.Cert, api.Errno, place) {
+			c, e, n := vipr.Parse(text)
+			return c, e, place(n)
+		}, errors(api.ErrWord, api.ErrNumber, api.ErrIndex, api.ErrReason, api.ErrSol, api.ErrTail)},
+	}
+}
+
 // calls are all that stand now.
 func calls() []call {
 	var out []call
-	for _, list := range [][]call{callsOfWholes(), callsOfFractions(), callsOfVectors(), callsOfSquares(), callsOfTexts(), callsOfMeaning(), callsOfShapes(), callsOfProofs(), callsOfCuts(), callsOfTrees()} {
+	for _, list := range [][]call{callsOfWholes(), callsOfFractions(), callsOfVectors(), callsOfSquares(), callsOfTexts(), callsOfMeaning(), callsOfShapes(), callsOfProofs(), callsOfCuts(), callsOfTrees(), callsOfCertificates()} {
 		out = append(out, list...)
 	}
 	return out

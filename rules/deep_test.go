@@ -102,7 +102,7 @@ func loose(v reflect.Value, r *rand.Rand) reflect.Value {
 		return reflect.ValueOf(tell.LooseWords(a, r.Intn))
 	case []api.Term:
 		return reflect.ValueOf(tell.LooseVec(a, r.Intn))
-	case api.Problem, api.LP: // their numbers must be in their one form; those of anyProblem needn't
+	case api.Problem, api.LP, api.Cert: // their numbers must be in their one form; those of anyProblem needn't
 		return parted(v, r, parts)
 	}
 	return parted(v, r, loose)

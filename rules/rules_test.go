@@ -76,7 +76,7 @@ func TestFormsAlike(t *testing.T) {
 	})
 }
 
-// P1.5, P2.4, P3.4, P4.3, P5.3, P6.5, P7.4, P8.2, P9.4, P10.4, P11.6, P12.6, P13.4, P14.5, P15.5, P16.3, P17.3, P18.3, P19.5, P20.3, P21.4; rule 5: what is handed in isn't changed, its spare room neither.
+// P1.5, P2.4, P3.4, P4.3, P5.3, P6.5, P7.4, P8.2, P9.4, P10.4, P11.6, P12.6, P13.4, P14.5, P15.5, P16.3, P17.3, P18.3, P19.5, P20.3, P21.4, P22.3, P23.2; rule 5: what is handed in isn't changed, its spare room neither.
 func TestArgumentsStay(t *testing.T) {
 	each(func(c call, given []reflect.Value) {
 		handed, kept := freshAll(given), freshAll(given)
@@ -89,7 +89,7 @@ func TestArgumentsStay(t *testing.T) {
 	})
 }
 
-// P1.5, P2.4, P3.4, P4.3, P5.3, P6.5, P7.4, P8.2, P9.4, P10.4, P11.6, P12.6, P13.4, P14.5, P15.5, P16.3, P17.3, P18.3, P19.5, P20.3, P21.4; rule 5: answers are new memory, each list of its own.
+// P1.5, P2.4, P3.4, P4.3, P5.3, P6.5, P7.4, P8.2, P9.4, P10.4, P11.6, P12.6, P13.4, P14.5, P15.5, P16.3, P17.3, P18.3, P19.5, P20.3, P21.4, P22.3, P23.2; rule 5: answers are new memory, each list of its own.
 func TestAnswersAreNew(t *testing.T) {
 	each(func(c call, given []reflect.Value) {
 		handed := freshAll(given)
@@ -99,7 +99,7 @@ func TestAnswersAreNew(t *testing.T) {
 	})
 }
 
-// P1.5, P2.4, P3.4, P4.3, P5.3, P6.5, P7.4, P8.2, P9.4, P10.4, P11.6, P12.6, P13.4, P14.5, P15.5, P16.3, P17.3, P18.3, P19.5, P20.3, P21.4; rule 5: nothing is wrong when one list is handed in at several places, and nothing is kept of it.
+// P1.5, P2.4, P3.4, P4.3, P5.3, P6.5, P7.4, P8.2, P9.4, P10.4, P11.6, P12.6, P13.4, P14.5, P15.5, P16.3, P17.3, P18.3, P19.5, P20.3, P21.4, P22.3, P23.2; rule 5: nothing is wrong when one list is handed in at several places, and nothing is kept of it.
 func TestOneListTwice(t *testing.T) {
 	each(func(c call, given []reflect.Value) {
 		for i, v := range given { // where a call takes two of a type, it is given one twice

@@ -16,7 +16,7 @@ import (
 
 // layers are all packages of the program, the lowest one first; each may call those ahead of it.
 func layers() []string {
-	return strings.Fields("api lists nat zint rat ratext vec oneform tell mat lu fields mps model cons told shape ratio dual derive propag cutrow cgcut gmi pool queue branch cert vipr check prove solve")
+	return strings.Fields("api lists words nat zint rat ratext vec oneform tell mat lu fields mps model cons told shape ratio dual derive propag cutrow cgcut gmi pool queue branch cert vipr check prove solve")
 }
 
 // library is what the program may take of Go's library.

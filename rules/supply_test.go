@@ -73,7 +73,9 @@ func matrices() [][][]api.Term {
 }
 
 // manyTexts gives texts of all kinds.
-func manyTexts() []string { return append(numberTexts(), problemTexts()...) }
+func manyTexts() []string {
+	return slices.Concat(numberTexts(), problemTexts(), certificateTexts())
+}
 
 // problemTexts gives texts that are a problem's, and such as have something wrong; one of each kind.
 func problemTexts() []string {
@@ -275,6 +277,36 @@ func lessonLists() [][]lesson {
 	return [][]lesson{nil, {}, all[:4], all[4:10], all[10:20], all[40:], slices.Repeat(all[40:41], 3), all}
 }
 
+// certificates gives certificates, and such as have something wrong.
+func certificates() []api.Cert {
+	out := []api.Cert{{}, {Claim: api.ClaimNone}, {Names: []string{"x"}, Whole: []bool{true, false}, Claim: api.ClaimRange}}
+	for _, s := range []string{
+		"| | | | none - - | |", "x y | w- | -1@0 1/2@1 | 2@0 <= 7; = -1/3; | range - 5 | 1@0; ; | 1@0 <= 7/2 by sum 1/2@0; 1@0 <= 3 by round 1@2; <= 0 by assume; 1@1 >= 1 by split at 2 4 3 4;",
+		"x | w | 1@1 | | none - - | |", "x | w | | | none - - | | <= 1 by assume at 1 0 0 0;", "x | w | | | range 2 - | 0@0; | <= 1 by sum 1@0;", "| | | 7 5; | -1 - - | |",
+	} {
+		out = append(out, tell.Cert(s))
+	}
+	r := rand.New(rand.NewSource(6))
+	for range 60 {
+		out = append(out, tell.ChanceCert(r.Intn))
+	}
+	for i, a := range numbers() {
+		c := tell.Cert("x | w | 1@0 | 2@0 <= 7; | range 1 2 | 1@0; | 1@0 <= 7/2 by sum 1/2@0;")
+		*[]*api.Rat{&c.Obj[0].Val, &c.Cons[0].Rhs, &c.Lo, &c.Sols[0][0].Val, &c.Ders[0].Uses[0].Val}[i%5] = a
+		out = append(out, c)
+	}
+	return out
+}
+
+// certificateTexts gives texts that are a certificate's, and such as have something wrong; one of each kind.
+func certificateTexts() []string {
+	const head, tail = "VER 1.0 VAR 2 x y INT 1 0 OBJ min 1 1 -1/2 CON 1 0 c L 7 2 0 1 1 2 RTP ", " { lin 1 0 1/3 } -1"
+	return []string{
+		"VER 1.0 VAR 0 INT 0 OBJ min 0 CON 0 0 RTP infeas SOL 0 DER 0", head + "range -7/2 inf SOL 1 s 1 0 3 DER 3 d L 7/3 2 0 1/3 1 2/3" + tail + " d G 1 0 { asm } -1 d E 0 0 { uns 0 1 2 1 } 5", head + "range -inf -" + strings.Repeat("9", 300) + "/7 SOL 0 DER 0",
+		head + "infeas SOL 0 DER 1 d L 7 0" + tail + " x", head + "infeas SOL 0 DER 1 d L 7 0 { sum 1 0 1 } -1", head + "infeas SOL 0 DER 1 d L 7 1 2 1" + tail, head + "infeas SOL 1 s 0 DER 0", head + "range 1/0 inf SOL 0 DER 0", head + "none SOL 0 DER 0",
+	}
+}
+
 // numberTexts gives texts that are a number's, and such as aren't.
 func numberTexts() []string {
 	return []string{
@@ -322,6 +354,7 @@ var supplies = sync.OnceValue(func() [][]any {
 		anyOf(nodeLists()),
 		anyOf(lessons()),
 		anyOf(lessonLists()),
+		anyOf(certificates()),
 	}
 })
 

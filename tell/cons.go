@@ -11,24 +11,29 @@ import (
 // senses gives the words of the senses, each at its number's place.
 func senses() []string { return []string{api.AtMost: "<=", api.AtLeast: ">=", api.Equal: "="} }
 
-// sense reads a sense; one that is none is told by its number.
-func sense(word string) int {
-	if i := slices.Index(senses(), word); i >= 0 {
+// kind reads the number at whose place a word stands; one that has no word is told by itself.
+func kind(list []string, word string) int {
+	if i := slices.Index(list, word); i >= 0 {
 		return i
 	}
-	n, err := strconv.Atoi(word)
-	if err != nil {
-		panic("not a sense: " + word)
-	}
-	return n
+	return Whole(word)
 }
 
-// ofSense writes a sense.
-func ofSense(n int) string {
-	if n >= api.AtMost && n <= api.Equal {
-		return senses()[n]
+// ofKind writes such a number.
+func ofKind(list []string, n int) string {
+	if n > 0 && n < len(list) {
+		return list[n]
 	}
 	return strconv.Itoa(n)
+}
+
+// Whole reads a whole number.
+func Whole(word string) int {
+	n, err := strconv.Atoi(word)
+	if err != nil {
+		panic("not a whole number: " + word)
+	}
+	return n
 }
 
 // Cons reads a constraint.
@@ -38,7 +43,7 @@ func Cons(s string) api.Cons {
 	if last < 1 {
 		panic("not a constraint: " + s)
 	}
-	return api.Cons{Sense: sense(words[last-1]), Terms: Vec(strings.Join(words[:last-1], " ")), Rhs: Rat(words[last])}
+	return api.Cons{Sense: kind(senses(), words[last-1]), Terms: Vec(strings.Join(words[:last-1], " ")), Rhs: Rat(words[last])}
 }
 
 // ConsList reads a list of constraints.
@@ -52,7 +57,7 @@ func ConsList(s string) []api.Cons {
 
 // OfCons writes a constraint, its terms in their order.
 func OfCons(c api.Cons) string {
-	return strings.TrimSpace(OfVec(c.Terms) + " " + ofSense(c.Sense) + " " + OfRat(c.Rhs))
+	return strings.TrimSpace(OfVec(c.Terms) + " " + ofKind(senses(), c.Sense) + " " + OfRat(c.Rhs))
 }
 
 // OfConsList writes a list of constraints.

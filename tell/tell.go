@@ -1,4 +1,4 @@
-// Package tell reads and writes numbers, vectors, matrices, constraints, linear problems and nodes as short texts, gives them in other forms, and some by chance: the tests of the layers say by it what they mean. No layer calls it.
+// Package tell reads and writes numbers, vectors, matrices, constraints, problems, linear problems, nodes and certificates as short texts, gives them in other forms, and some by chance: the tests of the layers say by it what they mean. No layer calls it.
 //
 // A vector is told as 1/2@0 -3@5, each number with its place; a matrix as 1@0; -3@5 7@6; with a semicolon behind each row; a constraint as 1/2@0 -3@5 <= 7, and a list of them likewise with semicolons.
 package tell

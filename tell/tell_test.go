@@ -7,6 +7,7 @@ import (
 	"testing"
 
 	"cutwater/api"
+	"cutwater/cert"
 	"cutwater/nat"
 	"cutwater/rat"
 	"cutwater/tell"
@@ -59,6 +60,46 @@ func TestUses(t *testing.T) {
 	}
 	if u := tell.Uses("1/2@3l -1@0h"); len(u) != 2 || u[0].Upper || !u[1].Upper || u[0].Col != 3 || tell.OfRat(u[1].Often) != "-1" {
 		t.Errorf("%v", u)
+	}
+}
+
+// Certificates have what their texts tell, and are written so again.
+func TestCert(t *testing.T) {
+	for _, s := range []string{
+		"| | | | none - - | |", "x y | w- | -3@0 -2@1 | 2@0 1@1 <= 7; = 0; | range -11 - | 3@0 1@1; ; | 1@0 <= 2 by sum 1/2@0; <= 0 by assume; 0 1 by round; 1@1 >= 1 by split at 5 -3 0 7;",
+		"x | ww- | 0@7 | | 7 - 1/2 | 1@-1; | <= 0 by -1 1@0 at 0 0 0 1; = 1 by 5; = 2 by split;",
+	} {
+		if got := tell.OfCert(tell.Cert(s)); got != s {
+			t.Errorf("%q is told as %q", s, got)
+		}
+	}
+	c := tell.Cert("x y | w- | -3@0 | 2@0 <= 7; | range - 5 | 3@0; ; | 1@0 <= 2 by sum 1/2@0; = 1 by split at 5 3 0 7; >= 1 by assume; = 2 by round 1@1;")
+	if len(c.Names) != 2 || c.Names[1] != "y" || !slices.Equal(c.Whole, []bool{true, false}) || tell.OfVec(c.Obj) != "-3@0" || tell.OfConsList(c.Cons) != "2@0 <= 7;" {
+		t.Errorf("%v", c)
+	}
+	if c.Claim != api.ClaimRange || c.HasLo || !c.HasHi || tell.OfRats([]api.Rat{c.Lo, c.Hi}) != "0 5" || tell.OfRows(c.Sols) != "3@0; ;" || tell.Cert("| | | | none - - | |").Claim != api.ClaimNone {
+		t.Errorf("%v", c)
+	}
+	var reasons []int
+	for _, d := range c.Ders {
+		reasons = append(reasons, d.Reason)
+	}
+	if d := c.Ders[1]; !slices.Equal(reasons, []int{api.BySum, api.BySplit, api.ByAssume, api.ByRound}) || tell.OfVec(c.Ders[0].Uses) != "1/2@0" || d.Left != 5 || d.LeftIf != 3 || d.Right != 0 || d.RightIf != 7 || tell.OfCons(d.Cons) != "= 1" {
+		t.Errorf("%v", c.Ders)
+	}
+	c.Lo = api.Rat{}
+	if got, want := tell.OfCert(c), "range -0? 5"; !strings.Contains(got, want) {
+		t.Errorf("%s", got)
+	}
+}
+
+// Certificates by chance are right.
+func TestChanceCert(t *testing.T) {
+	r := rand.New(rand.NewSource(8))
+	for range 300 {
+		if c := tell.ChanceCert(r.Intn); cert.Check(c) != api.OK {
+			t.Errorf("%s", tell.OfCert(c))
+		}
 	}
 }
 

@@ -12,12 +12,7 @@ func Nodes(s string) []api.Node {
 	var out []api.Node
 	for _, n := range parts(s) {
 		words := strings.Fields(n)
-		id, err := strconv.Atoi(words[0])
-		depth, other := strconv.Atoi(words[1])
-		if err != nil || other != nil {
-			panic("not a node: " + n)
-		}
-		out = append(out, api.Node{Id: id, Depth: depth, Least: Rat(words[2])})
+		out = append(out, api.Node{Id: Whole(words[0]), Depth: Whole(words[1]), Least: Rat(words[2])})
 	}
 	return out
 }
